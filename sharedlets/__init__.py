@@ -1,0 +1,1 @@
+"""Sharedlets: recursive programs with the same endless unfolding."""

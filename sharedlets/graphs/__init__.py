@@ -1,0 +1,1 @@
+"""Graphs, and the graphs of terms."""

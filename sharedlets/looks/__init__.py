@@ -1,0 +1,1 @@
+"""Addresses in the unfolding of a graph, and counts of its places."""

@@ -1,0 +1,1 @@
+"""Terms and their texts."""

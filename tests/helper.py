@@ -1,0 +1,563 @@
+"""What all tests share: values, generators of examples, and slow ways to work out the same results."""
+
+import re
+import unittest
+from reprlib import repr as shown
+
+from sharedlets.graphs.graphs import Graph
+from sharedlets.terms.texts import read
+
+ROLL = read("let x = f(g(x)) in x")
+LONG = read("let x = f(g(f(g(x)))) in x")
+NEST = read("let g = fun b. at(b, g) in g")
+CROSS = read("let g = fun a. at(a, fun b. at(a, g)) in g")
+APART = read("fun a. let g = fun b. at(a, g) in g")
+
+# Terms with shadowed names, nested blocks, names for names, definitions that nobody uses.
+TEXTS = (
+    "k()",
+    "fun a. a",
+    "fun a. fun a. a",
+    "fun a. pair(a, fun a. a)",
+    "fun a. pair(fun b. a, fun b. b)",
+    "fun a. let a = f(a) in a",
+    "let a = fun a. f(a, fun b. b) in g(a, let a = k() in a)",
+    "let x = f(g(x)) in x",
+    "let x = f(g(f(g(x)))) in x",
+    "let g = fun b. at(b, g) in g",
+    "let g = fun a. at(a, fun b. at(a, g)) in g",
+    "fun a. let g = fun b. at(a, g) in g",
+    "let x = y; y = z; z = f(x, y, z) in x",
+    "let z = f(x, y, z); x = y; y = z in g(let y = x in y, y)",
+    "let x = k(); y = x; z = m(z) in pair(y, fun a. x)",
+    "let x = let y = f(x) in y in x",
+    "let x = let x = f(x) in x in g(x)",
+    "fun a. let y = a; z = y in pair(z, fun a. pair(a, y))",
+    "fun a. let y = fun b. f(a, b, z); z = fun c. g(a, c, y) in pair(y, z)",
+    "let one = fun a. two; two = fun b. one in pair(one, two)",
+    "let f = f(f) in f",
+    "fun v. let g = fun w. pair(v, h); h = fun v. pair(v, g) in g",
+    "fun a. fun b. let g = fun c. word(b, g, c) in pair(g, a)",
+    "fun a. let x = fun b. let y = fun c. f(b, x, y) in y in g(x, a)",
+    "fun a. let x = b(y); y = fun b. f(b, x, a); n = m(n) in let z = y in z",
+)
+
+
+class Case(unittest.TestCase):
+    """Tests with a check for errors: the class must be just this one, with just this value."""
+
+    def fails(self, wanted, call, *args, **more):
+        kind, attribute = wanted if isinstance(wanted, tuple) else (wanted, None)
+        try:
+            result = call(*args, **more)
+        except Exception as error:
+            self.assertIs(type(error), kind, f"{call} {shown(args)} {shown(more)}")
+            if attribute is not None:
+                name, value = attribute
+                self.assertIs(type(getattr(error, name)), type(value))
+                self.assertEqual(getattr(error, name), value)
+            return
+        self.fail(f"no error: {call} {shown(args)} {shown(more)} gave {shown(result)}")
+
+
+def nested(make, many):
+    value = make(None)
+    for _ in range(many):
+        value = make(value)
+    return value
+
+
+def shared_tree(levels):
+    """The form of an open term with far too many parts to look at each of them."""
+    part = ("name", "x")
+    for _ in range(levels - 1):
+        part = ("word", "f", (part, part))
+    return part
+
+
+def chain(levels):
+    """An open term with so many levels, and as many parts."""
+    part = ("word", "k", ())
+    for number in range(levels - 1):
+        part = ("word", "f", (part,)) if number % 2 else ("fun", "x", part)
+    return part
+
+
+def fun_row(many, part):
+    """The part in so many functions."""
+    for _ in range(many):
+        part = ("fun", "a", part)
+    return part
+
+
+def wide(parts):
+    """A term with so many parts on few levels."""
+    rest = parts - 1
+    sizes = [size for size in (rest // 3, (rest + 1) // 3, (rest + 2) // 3) if size > 0]
+    return ("word", "f", tuple(wide(size) for size in sizes))
+
+
+def odd_values():
+    """Values of all kinds that [0.4] tells, made anew for each call."""
+    graph = Graph(("fun", 1), ("var", 0))
+    return [
+        None, True, False, 0, 1, 2, 3, -1, 10 ** 30, 10 ** 40 - 1, -(10 ** 40) + 1,
+        "", "x", "word", "fun", "let", "in", "X", "a b", "a1", "a_", "\n", "x\n", "abcdefgh", "abcdefghi", "~", " x",
+        (), ("x",), ("x", "y"), (0,), (0, 1), (True,), (None,), ((),), [], ["x"], [0], {}, {"x": 1}, {1: "x"}, {(): ()},
+        ("name",), ("name", "x"), ["name", "x"], ("name", "x", "y"), ("name", 3), ("name", "fun"), ("name", None),
+        ("word", "f"), ("word", "f", ()), ("word", "f", []), ("word", "f", (("name", "x"),) * 4), ("word", 1, ()),
+        ("word", "f", ("x",)), ("word", "f", (0,)), ("word", "f", (), ()), ("word", "let", ()),
+        ("fun", "x"), ("fun", "x", ("name", "x")), ("fun", "in", ("name", "x")), ("fun", "x", "x"), ("fun", 0), ("fun", 1),
+        ("var", 0), ("var", 1), ("var", True), ("fun", True), ("fun", None),
+        ("let", (), ("name", "x")), ("let", (("x", ("name", "x")),), ("name", "x")), ("let", {"x": ("name", "x")}, ("name", "x")),
+        ("let", (("x", ("word", "k", ())), ("x", ("word", "k", ()))), ("name", "x")), ("let", (("x",),), ("name", "x")),
+        ("let", (["x", ("word", "k", ())],), ("name", "x")), ("let", (("x", ("word", "k", ())),)),
+        ((0, 1), 2), ((0,), 0), (((0,), 1),), (((), 1),), (((0, 3), 1),), (((0,), -1),), (((0,), True),), (([0], 1),),
+        (((0,), 10 ** 30),), (((0,), 10 ** 30 + 1),), ((((0,), 1), 1),),
+        nested(lambda value: (value,), 9), nested(lambda value: [value], 9), nested(lambda value: {"x": value}, 9),
+        shared_tree(130), chain(121), chain(130), wide(501), graph, (graph,), [graph], ("name", graph), (graph, graph, graph),
+        ("word", "f", (graph,)), ("fun", graph), ValueError("x"), iter(()), TEXTS[0], TEXTS[7],
+    ]
+
+
+def letters(letter, number):
+    """The letter, and behind it the number counted a, .., z, aa, .., zz."""
+    alphabet = "abcdefghijklmnopqrstuvwxyz"
+    if number < 26:
+        return letter + alphabet[number]
+    return letter + alphabet[number // 26 - 1] + alphabet[number % 26]
+
+
+def exchanged(value, others):
+    """All values that come out if one part of this one, perhaps all of it, is exchanged for another one."""
+    yield from others
+    if isinstance(value, tuple):
+        for at, inner in enumerate(value):
+            for other in exchanged(inner, others):
+                yield value[:at] + (other,) + value[at + 1:]
+        yield value + (None,)
+        yield value[:-1]
+        yield list(value)
+
+
+# Slow ways over terms, each by the words of the document.
+
+def naive_is_name(value):
+    return isinstance(value, str) and bool(re.fullmatch("[a-z]{1,8}", value)) and value not in ("fun", "let", "in")
+
+
+def naive_is_open(value):
+    """Whether the value is an open term."""
+    left = [500]
+
+    def is_built(part, levels):
+        left[0] -= 1
+        if levels == 0 or left[0] < 0 or not isinstance(part, tuple):
+            return False
+        match part:
+            case ("name", x):
+                return naive_is_name(x)
+            case ("word", w, terms):
+                return naive_is_name(w) and isinstance(terms, tuple) and len(terms) <= 3 and all(
+                    is_built(term, levels - 1) for term in terms)
+            case ("fun", x, term):
+                return naive_is_name(x) and is_built(term, levels - 1)
+            case ("let", pairs, term):
+                if not isinstance(pairs, tuple) or not 1 <= len(pairs) <= 100:
+                    return False
+                if not all(isinstance(pair, tuple) and len(pair) == 2 and naive_is_name(pair[0]) for pair in pairs):
+                    return False
+                names = [name for name, _ in pairs]
+                if len(names) != len(dict.fromkeys(names)):
+                    return False
+                return all(is_built(one, levels - 1) for one in [one for _, one in pairs] + [term])
+        return False
+
+    return is_built(value, 120)
+
+
+def naive_inner(part):
+    match part[0]:
+        case "name":
+            return ()
+        case "word":
+            return part[2]
+        case "fun":
+            return (part[2],)
+    return tuple(term for _, term in part[1]) + (part[2],)
+
+
+def naive_size(part):
+    return 1 + sum(naive_size(inner) for inner in naive_inner(part))
+
+
+def naive_levels(part):
+    return 1 + max([naive_levels(inner) for inner in naive_inner(part)], default=0)
+
+
+def naive_paths(part):
+    paths = [()]
+    for at, inner in enumerate(naive_inner(part)):
+        paths += [(at,) + path for path in naive_paths(inner)]
+    return paths
+
+
+def naive_at(part, path):
+    for step in path:
+        part = naive_inner(part)[step]
+    return part
+
+
+def naive_put(part, path, other):
+    if path == ():
+        return other
+    inner = list(naive_inner(part))
+    inner[path[0]] = naive_put(inner[path[0]], path[1:], other)
+    if part[0] == "word":
+        return ("word", part[1], tuple(inner))
+    if part[0] == "fun":
+        return ("fun", part[1], inner[0])
+    return ("let", tuple((pair[0], term) for pair, term in zip(part[1], inner)), inner[-1])
+
+
+def naive_binder(part, path):
+    """The path of what the use at this path belongs to, and the number of the definition, or None for a function."""
+    name = naive_at(part, path)[1]
+    for length in range(len(path) - 1, -1, -1):
+        around = naive_at(part, path[:length])
+        if around[0] == "fun" and around[1] == name:
+            return path[:length], None
+        if around[0] == "let" and name in dict(around[1]):
+            return path[:length], [one for one, _ in around[1]].index(name)
+    return None
+
+
+def naive_head(part, path):
+    """The path of the head, or None."""
+    seen = []
+    while path not in seen:
+        seen.append(path)
+        one = naive_at(part, path)
+        if one[0] in ("word", "fun"):
+            return path
+        if one[0] == "let":
+            path += (len(one[1]),)
+            continue
+        found = naive_binder(part, path)
+        if found is None:
+            return None
+        if found[1] is None:
+            return path
+        path = found[0] + (found[1],)
+    return None
+
+
+def naive_free(part):
+    uses = [path for path in naive_paths(part) if naive_at(part, path)[0] == "name"]
+    return tuple(sorted({naive_at(part, path)[1] for path in uses if naive_binder(part, path) is None}))
+
+
+def naive_is_term(part):
+    if not naive_is_open(part) or naive_free(part):
+        return False
+    blocks = [path for path in naive_paths(part) if naive_at(part, path)[0] == "let"]
+    places = [path + (at,) for path in blocks for at in range(len(naive_at(part, path)[1]))]
+    return all(naive_head(part, path) is not None for path in places)
+
+
+def naive_read(text):
+    """The open term with a text, or None."""
+    found = _read_term(text)
+    if found is None or found[1] != "" or not naive_is_open(found[0]):
+        return None
+    return found[0]
+
+
+def _read_term(text):
+    if begin := re.match(r"fun ([a-z]+)\. ", text):
+        body = _read_term(text[begin.end():])
+        return body and (("fun", begin[1], body[0]), body[1])
+    if text.startswith("let "):
+        return _read_block(text[4:])
+    if begin := re.match(r"([a-z]+)\(", text):
+        return _read_word(begin[1], text[begin.end():])
+    if begin := re.match(r"[a-z]+", text):
+        return ("name", begin[0]), text[begin.end():]
+    return None
+
+
+def _read_word(name, text):
+    if text.startswith(")"):
+        return ("word", name, ()), text[1:]
+    terms = []
+    while found := _read_term(text):
+        terms.append(found[0])
+        text = found[1]
+        if text.startswith(")"):
+            return ("word", name, tuple(terms)), text[1:]
+        if not text.startswith(", "):
+            return None
+        text = text[2:]
+    return None
+
+
+def _read_block(text):
+    pairs = []
+    while begin := re.match("([a-z]+) = ", text):
+        found = _read_term(text[begin.end():])
+        if found is None:
+            return None
+        pairs.append((begin[1], found[0]))
+        text = found[1]
+        if text.startswith(" in "):
+            body = _read_term(text[4:])
+            return body and (("let", tuple(pairs), body[0]), body[1])
+        if not text.startswith("; "):
+            return None
+        text = text[2:]
+    return None
+
+
+def random_part(rng, levels, names=("a", "b", "g", "x")):
+    """Any open term with at most so many levels."""
+    kind = rng.choice(("name", "word", "fun", "let")) if levels > 1 else rng.choice(("name", "none"))
+    if kind == "name":
+        return ("name", rng.choice(names))
+    if kind == "none":
+        return ("word", "k", ())
+    if kind == "word":
+        terms = tuple(random_part(rng, levels - 1, names) for _ in range(rng.randrange(4)))
+        return ("word", rng.choice(("f", "g")), terms)
+    if kind == "fun":
+        return ("fun", rng.choice(names), random_part(rng, levels - 1, names))
+    defined = rng.sample(names, rng.randrange(1, min(3, len(names)) + 1))
+    pairs = tuple((name, random_part(rng, levels - 1, names)) for name in defined)
+    return ("let", pairs, random_part(rng, levels - 1, names))
+
+
+def random_terms(rng, many, levels=5):
+    """So many terms, all with uses of variables or definitions."""
+    found = []
+    while len(found) < many:
+        part = ("fun", "a", random_part(rng, levels, ("a", "b", "g")))
+        part = ("let", (("g", part), ("b", random_part(rng, levels, ("g", "b")))), ("name", rng.choice("gb")))
+        if naive_is_term(part):
+            found.append(part)
+    return found
+
+
+# Slow ways over unfoldings: the places of a term are gone through with the copies of all functions around.
+
+def term_looks(term, depth):
+    """A dict from the plain addresses down to this depth to the looks."""
+    looks = {}
+    waiting = [((), (), {})]
+    while waiting:
+        address, path, copies = waiting.pop()
+        path = naive_head(term, path)
+        copies = {function: at for function, at in copies.items() if path[:len(function)] == function}
+        one = naive_at(term, path)
+        if one[0] == "name":
+            looks[address] = ("var", len(address) - copies[naive_binder(term, path)[0]])
+            continue
+        looks[address] = ("fun",) if one[0] == "fun" else ("word", one[1], len(one[2]))
+        if one[0] == "fun":
+            copies = {**copies, path: len(address)}
+        if len(address) < depth:
+            waiting += [(address + (at,), path + (at,), copies) for at in range(len(naive_inner(one)))]
+    return looks
+
+
+def children_of(node):
+    return {"word": node[-1], "fun": node[1:], "var": ()}[node[0]]
+
+
+def naive_places(nodes, depth):
+    """A dict from the plain addresses down to this depth to the tuples of the nodes on the way."""
+    places = {(): (0,)}
+    level = places
+    for _ in range(depth):
+        level = {
+            address + (at,): way + (child,)
+            for address, way in level.items() for at, child in enumerate(children_of(nodes[way[-1]]))
+        }
+        places = {**places, **level}
+    return places
+
+
+def naive_way(nodes, address):
+    """The nodes on the way of a plain address, or None if it leads out of the tree."""
+    way = (0,)
+    for step in address:
+        children = children_of(nodes[way[-1]])
+        if step >= len(children):
+            return None
+        way += (children[step],)
+    return way
+
+
+def nearest(way, function):
+    """The length of the address of the nearest copy of the function above the last place of the way."""
+    return max(at for at, node in enumerate(way[:-1]) if node == function)
+
+
+def naive_look(nodes, way):
+    node = nodes[way[-1]]
+    if node[0] == "word":
+        return ("word", node[1], len(node[2]))
+    if node[0] == "fun":
+        return ("fun",)
+    return ("var", len(way) - 1 - nearest(way, node[1]))
+
+
+# Slow ways over graphs.
+
+def naive_needs(nodes):
+    """For each node the set of the functions that it needs: the least sets."""
+    needs = [{node[1]} if node[0] == "var" else set() for node in nodes]
+    while True:
+        more = [
+            needs[at] | set().union(*[needs[child] for child in children_of(node)]) - ({at} if node[0] == "fun" else set())
+            for at, node in enumerate(nodes)
+        ]
+        if more == needs:
+            return needs
+        needs = more
+
+
+def naive_innermost(needs, node):
+    found = [one for one in needs[node] if needs[node] - {one} <= needs[one]]
+    assert len(found) == (1 if needs[node] else 0)
+    return found[0] if found else None
+
+
+def naive_scope(needs, node):
+    function = naive_innermost(needs, node)
+    return () if function is None else naive_scope(needs, function) + (function,)
+
+
+def naive_is_node(node, nodes):
+    def is_number(value):
+        return type(value) is int and value in range(len(nodes))
+    if not isinstance(node, tuple):
+        return False
+    match node:
+        case ("word", w, children):
+            return naive_is_name(w) and isinstance(children, tuple) and len(children) <= 3 and all(map(is_number, children))
+        case ("fun", child):
+            return is_number(child)
+        case ("var", function):
+            return is_number(function) and isinstance(nodes[function], tuple) and nodes[function][:1] == ("fun",)
+    return False
+
+
+def naive_are_nodes(nodes):
+    """Whether the value is a tuple of the nodes of a graph, numbered in any way."""
+    if not isinstance(nodes, tuple) or not nodes or not all(naive_is_node(node, nodes) for node in nodes):
+        return False
+    owners = [node[1] for node in nodes if node[0] == "var"]
+    return len(owners) == len(set(owners)) and not naive_needs(nodes)[0]
+
+
+def naive_numbered(nodes, root=0):
+    """The nodes in the first walk, by its words."""
+    numbers = {}
+
+    def walk(node):
+        if node not in numbers:
+            numbers[node] = len(numbers)
+            for child in children_of(nodes[node]):
+                walk(child)
+
+    walk(root)
+    made = []
+    for old in numbers:
+        node = nodes[old]
+        if node[0] == "word":
+            made.append(("word", node[1], tuple(numbers[child] for child in node[2])))
+        else:
+            made.append((node[0], numbers[node[1]]))
+    return tuple(made)
+
+
+def naive_reached(nodes, node):
+    found, waiting = set(), [node]
+    while waiting:
+        one = waiting.pop()
+        if one not in found:
+            found.add(one)
+            waiting += children_of(nodes[one])
+    return found
+
+
+def random_nodes(rng, many):
+    """A tuple of nodes with numbers that are there; most functions have a variable."""
+    kinds = [rng.choice(("fun", "word")) for _ in range(many)]
+    owners = [at for at, kind in enumerate(kinds) if kind == "fun" and rng.random() < 0.9]
+    total = many + len(owners)
+    nodes = []
+    for kind in kinds:
+        if kind == "fun":
+            nodes.append(("fun", rng.randrange(total)))
+        else:
+            children = tuple(rng.randrange(total) for _ in range(rng.choice((0, 1, 2, 2, 3))))
+            nodes.append(("word", rng.choice("fg"), children))
+    return tuple(nodes + [("var", owner) for owner in owners])
+
+
+def scoped_nodes(rng, many):
+    """The nodes of a graph, all of them reached; the functions that a node may need stand in its row."""
+    rows, nodes, variables, waiting = [], [], {}, []
+
+    def add(row, node):
+        rows.append(row)
+        nodes.append(node)
+        return len(rows) - 1
+
+    def add_any(row):
+        at = add(row, rng.choice(("fun", "word")))
+        inner = row + (at,) if nodes[at] == "fun" else row
+        waiting.append((at, inner, 1 if nodes[at] == "fun" else rng.choice((0, 1, 2, 2, 3, 3))))
+        return at
+
+    def child(row):
+        if len(rows) < many and rng.random() < 0.6:
+            return add_any(row if rng.random() < 0.7 else row[:rng.randrange(len(row) + 1)])
+        if row and rng.random() < 0.6:
+            function = rng.choice(row)
+            if function not in variables:
+                variables[function] = add(rows[function] + (function,), ("var", function))
+            return variables[function]
+        near = [at for at in range(len(rows)) if rows[at] == row[:len(rows[at])]]
+        return rng.choice(near)
+
+    add_any(())
+    while waiting:
+        at, row, places = waiting.pop(rng.randrange(len(waiting)))
+        children = tuple(child(row) for _ in range(places))
+        nodes[at] = ("fun",) + children if nodes[at] == "fun" else ("word", rng.choice("fg"), children)
+    return tuple(nodes)
+
+
+def random_graph_nodes(rng, many, size, needed=2):
+    """So many tuples of nodes that are graphs, numbered in any way, in which so many variables are reached."""
+    found = []
+    while len(found) < many:
+        nodes = mixed(rng, scoped_nodes(rng, size))
+        if sum(nodes[node][0] == "var" for node in naive_reached(nodes, 0)) >= needed:
+            found.append(nodes)
+    return found
+
+
+def mixed(rng, nodes):
+    """The same nodes in another order, the root still the first one."""
+    order = [0] + rng.sample(range(1, len(nodes)), len(nodes) - 1)
+    places = {old: new for new, old in enumerate(order)}
+    made = []
+    for old in order:
+        node = nodes[old]
+        if node[0] == "word":
+            made.append(("word", node[1], tuple(places[child] for child in node[2])))
+        else:
+            made.append((node[0], places[node[1]]))
+    return tuple(made)
