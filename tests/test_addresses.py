@@ -126,6 +126,10 @@ class PlainAddresses(Case):
         self.assertEqual(plain((((0,), 0),) * 2000), ())
         for address in ((((0, 1), 500), 2), (2, ((0, 1), 500)), (0,) * 1001, (((0,), 1001),), (((0,), FAR),), (((0,), 501),) * 2):
             self.fails((TooMany, ("limit", 1000)), plain, address)
+        for address in ((0,) * 1001 + (3,), (((0,), FAR), None), (((0,), FAR), ((0,), FAR + 1))):
+            self.fails(InvalidAddress, plain, address)
+            self.fails(InvalidAddress, cut, address, -1)
+            self.fails(InvalidAddress, node_at, graph_of(NEST), address)
 
 
 class Cuts(Case):

@@ -2,9 +2,7 @@
 
 from sharedlets.checks import check_below
 from sharedlets.errors import InvalidGraph, InvalidOperation, TooMany
-from sharedlets.graphs.nodes import (
-    are_nodes, children_of, first_walk, innermost_of, needs_of, numbered, parents_of, scope_of
-)
+from sharedlets.graphs.nodes import are_nodes, children_of, first_walk, needs_of, numbered, parents_of, scopes_of
 
 MAX_NODES = 100
 
@@ -21,6 +19,7 @@ class Graph:
         if len(self._nodes) > MAX_NODES:
             raise TooMany(MAX_NODES)
         self._needs = needs_of(self._nodes)
+        self._scopes = scopes_of(self._needs)
 
     @classmethod
     def of(cls, nodes):
@@ -47,12 +46,13 @@ class Graph:
     def innermost(self, node):
         """The innermost of the functions that the node needs, or None."""
         self.check(node)
-        return innermost_of(self._needs, node)
+        scope = self._scopes[node]
+        return scope[-1] if len(scope) > 0 else None
 
     def scope(self, node):
         """The scope of the node."""
         self.check(node)
-        return scope_of(self._needs, node)
+        return self._scopes[node]
 
     def parents(self, node):
         """The ascending tuple of the pairs (parent, place) of the node."""

@@ -33,9 +33,8 @@ class Unrolling:
         return [self.meaning(inner) for inner in self.layout.inner[number]]
 
     def all_children(self):
-        """For each thing that parts can stand for the list of its children; blocks and uses have none."""
-        kinds = [part[0] for part in self.layout.parts]
-        rows = [self.children(number) if kinds[number] in ("word", "fun") else [] for number in range(self.many)]
+        """For each thing that parts can stand for the list of its children; nothing stands for a block."""
+        rows = [self.children(number) for number in range(self.many)]
         return rows + [[] for _ in rows]
 
     def node_for(self, meaning):
@@ -100,15 +99,6 @@ class WrittenForm:
         uses = len(self.graph.parents(node)) + (1 if node == 0 else 0)
         return uses > 1 and self.graph[node][0] != "var"
 
-    def is_inline(self, node):
-        """Whether the node is a word or a function that stands at its only use."""
-        return node not in self.defined and self.graph[node][0] != "var"
-
-    def inside(self, node):
-        """The nodes that are written in the term of this one, but not in the term of one between."""
-        inline = [child for child in children_of(self.graph[node]) if self.is_inline(child)]
-        return inline + self.blocks.get(node, [])
-
     def use_of(self, node):
         """What is written where a node is used."""
         if self.graph[node][0] == "var":
@@ -133,12 +123,10 @@ class WrittenForm:
 
     def whole(self):
         """The written form."""
-        outside = len(self.graph)
-        inner = [self.inside(node) for node in range(outside)]
-        inner.append(self.blocks.get(None, []) + ([0] if self.is_inline(0) else []))
-        # Each node comes behind the one in which it is written, so the terms are made from the end.
-        for node in first_walk(inner, outside)[:0:-1]:
-            self.terms[node] = self.term_for(node)
+        # What is written in the term of a node is first reached through this node, so it has a greater number.
+        for node in reversed(range(len(self.graph))):
+            if self.graph[node][0] != "var":
+                self.terms[node] = self.term_for(node)
         return self.in_block(None, self.use_of(0))
 
 

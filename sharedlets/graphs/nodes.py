@@ -42,13 +42,11 @@ def _is_node(value, nodes):
     return value[0] == "fun" or _is_pair_of(nodes[value[1]], "fun")
 
 
-def are_nodes(value):
-    """Whether the value is a tuple of nodes of a graph, numbered in any way, but for what the root needs."""
-    if not isinstance(value, tuple) or len(value) == 0:
+def are_nodes(values):
+    """Whether a tuple has nodes as a graph has them, numbered in any way, but for what the root needs."""
+    if len(values) == 0 or not all([_is_node(value, values) for value in values]):
         return False
-    if not all([_is_node(node, value) for node in value]):
-        return False
-    owners = [node[1] for node in value if node[0] == "var"]
+    owners = [node[1] for node in values if node[0] == "var"]
     return len(set(owners)) == len(owners)
 
 
@@ -87,20 +85,26 @@ def needs_of(nodes):
 
 def innermost_of(needs, number):
     """The innermost of the functions that a node needs, or None; needs are those of all nodes."""
+    found = None
     for function in needs[number]:
-        if all([one == function or one in needs[function] for one in needs[number]]):
-            return function
-    return None
+        # Of two functions that a node needs, just the inner one needs the other one.
+        if found is None or found in needs[function]:
+            found = function
+    return found
 
 
-def scope_of(needs, number):
-    """The scope of a node; needs are those of all nodes."""
-    scope = []
-    function = innermost_of(needs, number)
-    while function is not None:
-        scope.append(function)
-        function = innermost_of(needs, function)
-    return tuple(scope[::-1])
+def scopes_of(needs):
+    """The scopes of all nodes, from what they need."""
+    innermost = [innermost_of(needs, number) for number in range(len(needs))]
+    scopes = []
+    for function in innermost:
+        scope = []
+        around = function
+        while around is not None:
+            scope.append(around)
+            around = innermost[around]
+        scopes.append(tuple(scope[::-1]))
+    return scopes
 
 
 def first_walk(inner, root):

@@ -32,12 +32,10 @@ def _are_definitions(value):
 
 def _is_built(value):
     """Whether the value is built like an open term, whatever stands for the terms directly in it."""
-    if not isinstance(value, tuple) or len(value) < 2:
+    if not isinstance(value, tuple) or len(value) not in (2, 3):
         return False
-    if value[0] == "name":
-        return len(value) == 2 and is_name(value[1])
-    if len(value) != 3:
-        return False
+    if len(value) == 2:
+        return value[0] == "name" and is_name(value[1])
     if value[0] == "word":
         return is_name(value[1]) and isinstance(value[2], tuple) and len(value[2]) <= MAX_TERMS
     if value[0] == "fun":
@@ -106,8 +104,6 @@ def word(name, *terms):
 def word_of(name, terms):
     """The word with this name and a tuple of terms."""
     check_name(name)
-    if not isinstance(terms, tuple):
-        raise InvalidTerm("the terms are not a tuple")
     made = ("word", name, terms)
     check_part(made)
     return made
@@ -116,7 +112,6 @@ def word_of(name, terms):
 def fun(variable, term):
     """The function with this variable and this body."""
     check_name(variable)
-    check_part(term)
     made = ("fun", variable, term)
     check_part(made)
     return made
@@ -134,8 +129,6 @@ def let_of(term, definitions):
         raise InvalidName("the definitions are not a dict")
     for name in definitions:
         check_name(name)
-    for name in definitions:
-        check_part(definitions[name])
     pairs = [(name, definitions[name]) for name in sorted(definitions)]
     made = ("let", tuple(pairs), term)
     check_part(made)
@@ -183,7 +176,6 @@ def put_at(part, path, other):
     check_part(part)
     layout = Layout(part)
     number = number_at(layout, path)
-    check_part(other)
     made = other
     while number > 0:
         place = layout.places[number]

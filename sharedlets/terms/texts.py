@@ -2,7 +2,7 @@
 
 from sharedlets.errors import ParseError
 from sharedlets.terms.layout import Layout
-from sharedlets.terms.terms import LETTERS, MAX_LEVELS, check_part, is_name, is_open_term, is_term
+from sharedlets.terms.terms import LETTERS, MAX_LEVELS, check_part, is_open_term, is_term
 
 
 def text_of(part, texts):
@@ -30,7 +30,11 @@ def write(part):
 
 
 class Reader:
-    """Reads the text of an open term from left to right, without going into itself."""
+    """Reads the text of an open term from left to right, without going into itself.
+
+    It looks at signs and blanks alone: whether names, numbers of terms and the like are as in an open term
+    is checked when the whole is there.
+    """
 
     def __init__(self, text):
         self.text = text
@@ -60,8 +64,6 @@ class Reader:
     def read_name(self, behind):
         """Go past a name and the sign behind it, and return the name."""
         name = self.read_letters()
-        if not is_name(name):
-            raise ParseError("a name is wanted here")
         self.expect(behind)
         return name
 
@@ -80,8 +82,6 @@ class Reader:
         elif letters == "let":
             self.expect(" ")
             self.put_row(["let", [], self.read_name(" = ")])
-        elif not is_name(letters):
-            raise ParseError("an open term is wanted here")
         elif not self.take("("):
             return ("name", letters)
         elif self.take(")"):
