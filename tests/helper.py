@@ -44,20 +44,32 @@ TEXTS = (
 
 
 class Case(unittest.TestCase):
-    """Tests with a check for errors: the class must be just this one, with just this value."""
+    """Tests with a check for errors: the class must be just this one, with just this value; nothing is changed."""
 
     def fails(self, wanted, call, *args, **more):
         kind, attribute = wanted if isinstance(wanted, tuple) else (wanted, None)
+        passed = [value for value in args + tuple(more.values()) if isinstance(value, (list, dict))]
+        before = snapshot(passed)
         try:
             result = call(*args, **more)
         except Exception as error:
             self.assertIs(type(error), kind, f"{call} {shown(args)} {shown(more)}")
+            self.assertEqual(passed, before)
             if attribute is not None:
                 name, value = attribute
                 self.assertIs(type(getattr(error, name)), type(value))
                 self.assertEqual(getattr(error, name), value)
             return
         self.fail(f"no error: {call} {shown(args)} {shown(more)} gave {shown(result)}")
+
+
+def snapshot(value):
+    """A copy of what can be changed: lists and dicts, also in one another."""
+    if isinstance(value, list):
+        return [snapshot(one) for one in value]
+    if isinstance(value, dict):
+        return {key: snapshot(one) for key, one in value.items()}
+    return value
 
 
 def nested(make, many):
@@ -116,7 +128,7 @@ def odd_values():
         (((0,), 10 ** 30),), (((0,), 10 ** 30 + 1),), ((((0,), 1), 1),),
         nested(lambda value: (value,), 9), nested(lambda value: [value], 9), nested(lambda value: {"x": value}, 9),
         shared_tree(130), chain(121), chain(130), wide(501), graph, (graph,), [graph], ("name", graph), (graph, graph, graph),
-        ("word", "f", (graph,)), ("fun", graph), ValueError("x"), iter(()), TEXTS[0], TEXTS[7],
+        ("word", "f", (graph,)), ("fun", graph), TEXTS[0], TEXTS[7],
     ]
 
 

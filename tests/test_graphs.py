@@ -241,7 +241,7 @@ class Methods(Case):
         self.assertEqual([graph.scope(node) for node in range(8)],
                          [(), (0,), (0, 1), (0, 1), (0, 1, 3), (0, 1), (0, 1, 3), (0,)])
 
-    def test_innermost_function_is_not_always_the_greatest(self):
+    def test_scopes_of_nodes_numbered_in_any_way(self):
         graph = Graph(("word", "f", (1, 4)), ("fun", 2), ("word", "g", (1, 3)), ("var", 1), ("fun", 5), ("var", 4))
         self.assertEqual(graph.scope(3), (1,))
         far = Graph(("fun", 5), K, ("var", 0), ("fun", 4), ("word", "at", (2, 3)), ("fun", 3))
@@ -321,7 +321,7 @@ class Methods(Case):
             for value in no_numbers(graph):
                 wanted = (InvalidNumber, ("value", value))
                 for method in (graph.needs, graph.innermost, graph.scope, graph.parents, graph.reached, graph.is_on_ring,
-                               graph.closed_part, graph.__getitem__):
+                               graph.closed_part, lambda node: graph[node]):
                     self.fails(wanted, method, value)
         for value in odd_values():
             if type(value) is not int or value not in range(5):

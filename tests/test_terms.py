@@ -54,7 +54,7 @@ class Names(Case):
             self.assertIs(is_name(value), False, value)
 
     def test_each_sign(self):
-        for sign in string.printable:
+        for sign in [chr(code) for code in range(32, 127)] + ["\n"]:
             lower = sign in string.ascii_lowercase
             for value in (sign, "ab" + sign, sign + "ab", "a" + sign + "b"):
                 self.assertIs(is_name(value), lower)
@@ -246,7 +246,6 @@ class Making(Case):
     def test_terms_must_be_a_tuple(self):
         for value in (None, True, 0, "", "abc", [], [X], {}, {"x": X}, X, K, "x", ((), ())):
             self.fails(InvalidTerm, word_of, "f", value)
-        self.fails(InvalidTerm, word_of, "f", iter(()))
 
     def test_definitions_must_be_a_dict_with_names(self):
         for value in odd_values():

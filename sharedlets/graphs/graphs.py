@@ -46,8 +46,9 @@ class Graph:
     def innermost(self, node):
         """The innermost of the functions that the node needs, or None."""
         self.check(node)
-        scope = self._scopes[node]
-        return scope[-1] if len(scope) > 0 else None
+        # This one needs the others, so it is met behind them on the first walk.
+        needs = self._needs[node]
+        return needs[-1] if len(needs) > 0 else None
 
     def scope(self, node):
         """The scope of the node."""

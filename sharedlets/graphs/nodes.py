@@ -83,27 +83,13 @@ def needs_of(nodes):
     return [tuple(row) for row in needs]
 
 
-def innermost_of(needs, number):
-    """The innermost of the functions that a node needs, or None; needs are those of all nodes."""
-    found = None
-    for function in needs[number]:
-        # Of two functions that a node needs, just the inner one needs the other one.
-        if found is None or found in needs[function]:
-            found = function
-    return found
-
-
 def scopes_of(needs):
-    """The scopes of all nodes, from what they need."""
-    innermost = [innermost_of(needs, number) for number in range(len(needs))]
+    """The scopes of all nodes, which are numbered by the first walk, from what they need."""
     scopes = []
-    for function in innermost:
-        scope = []
-        around = function
-        while around is not None:
-            scope.append(around)
-            around = innermost[around]
-        scopes.append(tuple(scope[::-1]))
+    for row in needs:
+        # All ways to a node go through the functions that it needs. So these have less numbers than the node,
+        # and the innermost one, which needs the others, has the greatest number of them.
+        scopes.append(scopes[row[-1]] + (row[-1],) if len(row) > 0 else ())
     return scopes
 
 
