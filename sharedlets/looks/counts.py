@@ -77,16 +77,16 @@ def first_address(graph, node):
     check_graph(graph)
     check_below(node, len(graph))
     addresses = {0: ()}
-    level = [0]
-    # Each level has its nodes in the order of their first addresses, so the addresses of the next one ascend.
+    order = [0]
+    at = 0
+    # The nodes stand in the order of their first addresses, so the addresses that are found ascend.
     while node not in addresses:
-        further = []
-        for one in level:
-            for place, child in enumerate(children_of(graph[one])):
-                if child not in addresses:
-                    addresses[child] = addresses[one] + (place,)
-                    further.append(child)
-        level = further
+        around = order[at]
+        at += 1
+        for place, child in enumerate(children_of(graph[around])):
+            if child not in addresses:
+                addresses[child] = addresses[around] + (place,)
+                order.append(child)
     return addresses[node]
 
 
