@@ -1,9 +1,12 @@
 """What all tests share: values, generators of examples, and slow ways to work out the same results."""
 
+import itertools
+import random
 import re
 import unittest
 from reprlib import repr as shown
 
+from sharedlets.errors import InvalidGraph, InvalidNumber
 from sharedlets.graphs.graphs import Graph
 from sharedlets.terms.texts import read
 
@@ -573,3 +576,270 @@ def mixed(rng, nodes):
         else:
             made.append((node[0], places[node[1]]))
     return tuple(made)
+
+
+# Wrong arguments, alone and in several parameters at once.
+
+def wrong_graphs():
+    """Pairs (value, wanted error) of values that are no graphs."""
+    values = odd_values() + [ROLL, (("fun", 1), ("var", 0)), "graph of 1 nodes, 0 functions"]
+    return [(value, InvalidGraph) for value in values if not isinstance(value, Graph)]
+
+
+def wrong_numbers(limit=None):
+    """Likewise of values that are not integers from 0 to less than the limit."""
+    values = [-1, -(10 ** 40) + 1, None, True, False, "", "0", (), (0,), [], [0], {}, {0: 0}, Graph(("word", "k", ()))]
+    values += [] if limit is None else [limit, limit + 1, 10 ** 40 - 1]
+    return [(value, (InvalidNumber, ("value", value))) for value in values]
+
+
+def check_errors(case, call, *params):
+    """Try each wrong argument beside all kinds of arguments behind it.
+
+    A parameter is a pair: a list of good values, and a list of pairs (wrong value, wanted error).
+    """
+    for at, (_, wrong) in enumerate(params):
+        before = [good[0] for good, _ in params[:at]]
+        behind = [[good[0], *[value for value, _ in bad[:2]]] for good, bad in params[at + 1:]]
+        for value, wanted in wrong:
+            for rest in itertools.product(*behind):
+                case.fails(wanted, call, *before, value, *rest)
+
+
+def first_of(generator):
+    """The function that asks a generator function for its first result."""
+    def call(*args):
+        return next(generator(*args))
+    return call
+
+
+# Pairs of graphs, and slow ways to compare them.
+
+def doubled(rng, term, letter="u"):
+    """A term with the same unfolding in which each definition stands twice, under another name the second time."""
+    fresh = iter([letters(letter, number) for number in range(26 * 27)])
+
+    def copied(part, names):
+        match part:
+            case ("name", x):
+                return ("name", rng.choice(names.get(x, (x,))))
+            case ("word", w, terms):
+                return ("word", w, tuple(copied(one, names) for one in terms))
+            case ("fun", x, body):
+                return ("fun", x, copied(body, {**names, x: (x,)}))
+        inner = {**names, **{x: (x, next(fresh)) for x, _ in part[1]}}
+        rows = [(name, copied(one, inner)) for x, one in part[1] for name in inner[x]]
+        return ("let", tuple(rows), copied(part[2], inner))
+
+    return copied(term, {})
+
+
+def rich_term(rng, levels, names=()):
+    """A term in which many variables are used, below several functions; the names are those that can be used."""
+    fresh = letters(rng.choice("abcdxyz"), len(names))
+    chance = rng.random()
+    if levels == 1 or (names and chance < 0.2):
+        return ("name", rng.choice(names)) if names else ("word", "k", ())
+    if chance < 0.5:
+        return ("word", rng.choice("fg"), tuple(rich_term(rng, levels - 1, names) for _ in range(rng.randrange(1, 4))))
+    if chance < 0.8:
+        return ("fun", fresh, rich_term(rng, levels - 1, names + (fresh, fresh)))
+    defined = (fresh, letters("q", len(names)))[:rng.randrange(1, 3)]
+    inner = names + defined
+    rows = tuple((name, ("word", "h", (rich_term(rng, levels - 1, inner),)) if rng.random() < 0.5 else
+                  ("fun", "e", rich_term(rng, levels - 1, inner + ("e",)))) for name in defined)
+    return ("let", rows, rich_term(rng, levels - 1, inner))
+
+
+def rich_terms(rng, many, levels=7, most=60):
+    """So many terms whose graphs have at most so many nodes, and nodes that need several functions."""
+    found = []
+    while len(found) < many:
+        term = rich_term(rng, levels)
+        if not naive_is_term(term):
+            continue
+        nodes = naive_graph(term)
+        if len(nodes) <= most and max(map(len, naive_needs(nodes))) > 1:
+            found.append(term)
+    return found
+
+
+def alike_nodes(rng, many, most=60):
+    """So many pairs of tuples of nodes with the same unfolding, each with at most so many nodes."""
+    found = []
+    while len(found) < many:
+        term = random_terms(rng, 1, 6)[0] if len(found) % 2 else rich_terms(rng, 1)[0]
+        other = doubled(rng, term)
+        if naive_is_open(term) and naive_is_open(other):
+            pair = (naive_graph(term), naive_graph(other))
+            if max(map(len, pair)) <= most and rng.random() < len(pair[1]) / 12:
+                found.append(pair)
+    return found
+
+
+def naive_graph(term):
+    """The nodes of the graph of a term, by the words of [0.14]."""
+    numbers, nodes = {}, []
+
+    def node_for(path):
+        head = naive_head(term, path)
+        one = naive_at(term, head)
+        key = ("var", naive_binder(term, head)[0]) if one[0] == "name" else head
+        if key not in numbers:
+            numbers[key] = len(nodes)
+            nodes.append(None)
+            if one[0] == "name":
+                nodes[numbers[key]] = ("var", numbers[key[1]])
+            elif one[0] == "fun":
+                nodes[numbers[key]] = ("fun", node_for(head + (0,)))
+            else:
+                nodes[numbers[key]] = ("word", one[1], tuple(node_for(head + (at,)) for at in range(len(one[2]))))
+        return numbers[key]
+
+    node_for(())
+    return tuple(nodes)
+
+
+def changed_nodes(rng, nodes):
+    """The nodes of a graph with one word, child or variable changed, in the order of the first walk."""
+    for _ in range(200):
+        made = list(nodes)
+        at = rng.randrange(len(nodes))
+        node = nodes[at]
+        if node[0] == "word" and rng.random() < 0.3:
+            made[at] = ("word", rng.choice("fgm"), node[2])
+        elif node[0] == "word":
+            children = list(node[2]) or [0]
+            children[rng.randrange(len(children))] = rng.randrange(len(nodes))
+            made[at] = ("word", node[1], tuple(children))
+        else:
+            made[at] = (node[0], rng.randrange(len(nodes)))
+        if made[at] != node and naive_are_nodes(tuple(made)):
+            return naive_numbered(tuple(made))
+    return (("word", "other", ()),)
+
+
+def graph_pairs(seed, alike=40, others=60):
+    """Pairs of tuples of nodes: alike ones, such as differ in one place, and any others."""
+    rng = random.Random(seed)
+    found = alike_nodes(rng, alike)
+    found += [(one, changed_nodes(rng, two)) for one, two in alike_nodes(rng, others)]
+    for size in (4, 7, 12):
+        rows = [naive_numbered(nodes) for nodes in random_graph_nodes(rng, 12, size, 1)]
+        found += [(nodes, changed_nodes(rng, nodes)) for nodes in rows] + list(zip(rows, rows[1:])) + [(rows[0], rows[0])]
+    named = [naive_graph(term) for term in (ROLL, LONG, NEST, CROSS, APART)]
+    return found + [(one, two) for one in named for two in named]
+
+
+def naive_scopes(nodes):
+    needs = naive_needs(nodes)
+    return [naive_scope(needs, node) for node in range(len(nodes))]
+
+
+def naive_demands(nodes, others, scopes, other_scopes, pair):
+    """The set of the pairs that [0.15] asks for beside this one, or None; without scopes if those are None."""
+    one, two = nodes[pair[0]], others[pair[1]]
+    if one[0] != two[0] or (one[0] == "word" and (one[1], len(one[2])) != (two[1], len(two[2]))):
+        return None
+    found = set(zip(children_of(one), children_of(two)))
+    if one[0] == "var":
+        found.add((one[1], two[1]))
+    if scopes is not None:
+        if len(scopes[pair[0]]) != len(other_scopes[pair[1]]):
+            return None
+        found |= set(zip(scopes[pair[0]], other_scopes[pair[1]]))
+    return found
+
+
+def naive_matching_pairs(nodes, others, scoped=True):
+    """The set of all matching pairs: those that cannot match are struck out, until nothing changes."""
+    scopes = (naive_scopes(nodes), naive_scopes(others)) if scoped else (None, None)
+    pairs = {(one, two) for one in range(len(nodes)) for two in range(len(others))}
+    needed = {pair: naive_demands(nodes, others, *scopes, pair) for pair in pairs}
+    while True:
+        kept = {pair for pair in pairs if needed[pair] is not None and needed[pair] <= pairs}
+        if kept == pairs:
+            return kept
+        pairs = kept
+
+
+def naive_is_matching(nodes, others, value):
+    if not isinstance(value, tuple) or (0, 0) not in value:
+        return False
+    for pair in value:
+        if not (isinstance(pair, tuple) and len(pair) == 2 and type(pair[0]) is int and type(pair[1]) is int):
+            return False
+        if pair[0] not in range(len(nodes)) or pair[1] not in range(len(others)):
+            return False
+    if any(not one < two for one, two in zip(value, value[1:])):
+        return False
+    scopes = (naive_scopes(nodes), naive_scopes(others))
+    needed = [naive_demands(nodes, others, *scopes, pair) for pair in value]
+    return all(demanded is not None and demanded <= set(value) for demanded in needed)
+
+
+def naive_met(nodes, others):
+    """The ascending tuple of the pairs to which addresses lead in both, as far as both have the places."""
+    met, waiting = set(), [(0, 0)]
+    while waiting:
+        pair = waiting.pop()
+        if pair not in met:
+            met.add(pair)
+            waiting += zip(children_of(nodes[pair[0]]), children_of(others[pair[1]]))
+    return tuple(sorted(met))
+
+
+def naive_closed(nodes, pairs):
+    """The division, as a set of frozensets, in which these matching pairs are joined, and what must be joined then."""
+    scopes = naive_scopes(nodes)
+    sets = {node: frozenset([node]) for node in range(len(nodes))}
+    waiting = list(pairs)
+    while waiting:
+        one, two = waiting.pop()
+        if sets[one] != sets[two]:
+            both = sets[one] | sets[two]
+            sets.update({node: both for node in both})
+            waiting += [pair for left in both for right in both
+                        for pair in naive_demands(nodes, nodes, scopes, scopes, (left, right))]
+    return set(sets.values())
+
+
+def naive_quotient(nodes, division):
+    """The nodes, numbered anew, in which each set of a division has become one."""
+    lead = {node: min(part) for part in division for node in part}
+    made = {}
+    for node in sorted(set(lead.values())):
+        one = nodes[node]
+        if one[0] == "word":
+            made[node] = ("word", one[1], tuple(lead[child] for child in one[2]))
+        else:
+            made[node] = (one[0], lead[one[1]])
+    order = sorted(made)
+    places = {old: new for new, old in enumerate(order)}
+    rows = []
+    for old in order:
+        one = made[old]
+        passed = tuple(places[child] for child in one[2]) if one[0] == "word" else places[one[1]]
+        rows.append(("word", one[1], passed) if one[0] == "word" else (one[0], passed))
+    return naive_numbered(tuple(rows))
+
+
+def naive_difference(nodes, others, most):
+    """The first difference, as a triple, or None if there is none among the first places, so many."""
+    level = [((), (0,), (0,))]
+    while level and most > 0:
+        further = []
+        for address, way, other in level:
+            looks = (naive_look(nodes, way), naive_look(others, other))
+            if looks[0] != looks[1]:
+                return (address, *looks)
+            pairs = zip(children_of(nodes[way[-1]]), children_of(others[other[-1]]))
+            further += [(address + (at,), way + (one,), other + (two,)) for at, (one, two) in enumerate(pairs)]
+        most -= len(level)
+        level = further
+    return None
+
+
+def ring(many, odd=()):
+    """The nodes of a ring of words, some of them other ones."""
+    return tuple(("word", "g" if at in odd else "f", ((at + 1) % many,)) for at in range(many))

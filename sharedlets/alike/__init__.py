@@ -1,0 +1,1 @@
+"""Matchings of graphs, and first differences."""

@@ -1,0 +1,1 @@
+"""Least graphs, joins, and maps between graphs."""
