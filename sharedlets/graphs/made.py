@@ -3,8 +3,7 @@
 from sharedlets.errors import TooMany
 from sharedlets.graphs.graphs import MAX_NODES, Graph, check_graph
 from sharedlets.graphs.nodes import children_of, first_walk
-from sharedlets.terms.layout import Layout
-from sharedlets.terms.terms import LETTERS, check_term, number_at
+from sharedlets.terms.terms import LETTERS, layout_of_term, number_at
 
 
 class Unrolling:
@@ -15,33 +14,21 @@ class Unrolling:
     """
 
     def __init__(self, term):
-        self.layout = Layout(term)
-        self.many = len(self.layout.parts)
-        self.heads = self.layout.find_heads()
-        self.order = first_walk(self.all_children(), self.meaning(0))
+        self.layout, heads = layout_of_term(term)
+        self.many = len(heads)
+        # The head of a use of a variable is this use itself or another one, which belongs to the same function.
+        owners = self.layout.owners
+        self.meanings = [head if owners[head] is None else self.many + owners[head][0] for head in heads]
+        # Nothing stands for a block, and a use of a variable has no children.
+        self.rows = [[self.meanings[one] for one in inner] for inner in self.layout.inner] + [[] for _ in heads]
+        self.order = first_walk(self.rows, self.meanings[0])
         self.numbers = {meaning: node for node, meaning in enumerate(self.order)}
-
-    def meaning(self, number):
-        """What the part with this number stands for."""
-        head = self.heads[number]
-        if self.layout.is_use(head):
-            return self.many + self.layout.owner_of(head)
-        return head
-
-    def children(self, number):
-        """What the children of a word or a function stand for."""
-        return [self.meaning(inner) for inner in self.layout.inner[number]]
-
-    def all_children(self):
-        """For each thing that parts can stand for the list of its children; nothing stands for a block."""
-        rows = [self.children(number) for number in range(self.many)]
-        return rows + [[] for _ in rows]
 
     def node_for(self, meaning):
         """The node in the graph of something that is met on the first walk."""
         if meaning >= self.many:
             return ("var", self.numbers[meaning - self.many])
-        children = [self.numbers[child] for child in self.children(meaning)]
+        children = [self.numbers[child] for child in self.rows[meaning]]
         part = self.layout.parts[meaning]
         if part[0] == "fun":
             return ("fun", children[0])
@@ -54,18 +41,16 @@ class Unrolling:
 
 def graph_of(term):
     """The graph of a term."""
-    check_term(term)
     return Unrolling(term).made_graph()
 
 
 def node_of(term, path):
     """The node in the graph of the term for the head of the part at a path, or None."""
-    check_term(term)
     unrolling = Unrolling(term)
     number = number_at(unrolling.layout, path)
     if len(unrolling.order) > MAX_NODES:
         raise TooMany(MAX_NODES)
-    return unrolling.numbers.get(unrolling.meaning(number))
+    return unrolling.numbers.get(unrolling.meanings[number])
 
 
 def label(letter, number):

@@ -4,8 +4,8 @@ from sharedlets.checks import is_below
 
 
 def terms_in(part):
-    """The open terms directly in an open term, by their numbers in paths."""
-    if part[0] == "name":
+    """The open terms directly in an open term, by their numbers in paths; likewise the bodies in a body."""
+    if part[0] == "name" or part[0] == "call":
         return ()
     if part[0] == "word":
         return part[2]
@@ -24,43 +24,48 @@ def with_term(part, place, other):
     return (part[0], part[1], other)
 
 
-def names_of(part):
-    """A dict from the names to which uses in this part can belong, to numbers in paths."""
+def names_below(part, number, names):
+    """The names that stand for something in the terms directly in a part: what it binds, and what is bound around it.
+
+    Each stands for a pair: the number of a function and None, or the number of a block and that of a definition.
+    """
     if part[0] == "fun":
-        return {part[1]: 0}
+        return {**names, part[1]: (number, None)}
     if part[0] == "let":
-        return {name: place for place, (name, _) in enumerate(part[1])}
-    return {}
+        own = {name: (number, place) for place, (name, _) in enumerate(part[1])}
+        return {**names, **own}
+    return names
 
 
 class Layout:
-    """The parts of an open term, numbered by ascending paths; number 0 is the whole."""
+    """The parts of an open term, or of a body, numbered by ascending paths; number 0 is the whole."""
 
     def __init__(self, whole):
         self.parts = []
         self.around = []
         self.places = []
         self.inner = []
-        self.bound = []
-        waiting = [(whole, 0, 0)]
+        # For each use what its name stands for, as names_below tells it; None for a free name and for other parts.
+        self.owners = []
+        waiting = [(whole, 0, 0, {})]
         while waiting:
-            part, around, place = waiting.pop()
+            part, around, place, names = waiting.pop()
             number = len(self.parts)
-            self._add_row(part, around, place)
+            if number > 0:
+                self.inner[around].append(number)
+            self.parts.append(part)
+            self.around.append(around)
+            self.places.append(place)
+            self.inner.append([])
+            if part[0] == "name":
+                self.owners.append(names.get(part[1]))
+                continue
+            self.owners.append(None)
+            below = names_below(part, number, names)
             terms = terms_in(part)
             # The last one that is added comes out first, and paths ascend.
-            for at in reversed(range(len(terms))):
-                waiting.append((terms[at], number, at))
-
-    def _add_row(self, part, around, place):
-        number = len(self.parts)
-        if number > 0:
-            self.inner[around].append(number)
-        self.parts.append(part)
-        self.around.append(around)
-        self.places.append(place)
-        self.inner.append([])
-        self.bound.append(names_of(part))
+            for at in range(len(terms) - 1, -1, -1):
+                waiting.append((terms[at], number, at, below))
 
     def path_of(self, number):
         """The path of the part with this number."""
@@ -82,6 +87,14 @@ class Layout:
             number = self.inner[number][step]
         return number
 
+    def built(self, make):
+        """What is made of the whole: make is passed each part, and the list of what is made of those directly in it."""
+        made = {}
+        # What is in a part has greater numbers, so it is made already.
+        for number in reversed(range(len(self.parts))):
+            made[number] = make(self.parts[number], [made[one] for one in self.inner[number]])
+        return made[0]
+
     def levels(self):
         """How many parts are in one another at most."""
         levels = [1]
@@ -93,45 +106,32 @@ class Layout:
         """Whether the part with this number is the use of a name."""
         return self.parts[number][0] == "name"
 
-    def owner_of(self, number):
-        """The number of the function or block to which this use belongs, or None."""
-        name = self.parts[number][1]
-        at = number
-        while at > 0:
-            at = self.around[at]
-            if name in self.bound[at]:
-                return at
-        return None
+    def onward(self):
+        """A list with the number of the part to which each one leads at once: itself for a head.
 
-    def is_head(self, number):
-        """Whether this part is a word, a function, or a use of the variable of a function."""
-        if not self.is_use(number):
-            return self.parts[number][0] != "let"
-        owner = self.owner_of(number)
-        return owner is not None and self.parts[owner][0] == "fun"
-
-    def onward(self, number):
-        """The number of the part to which a block or the use of a defined name leads; None for a free name."""
-        if not self.is_use(number):
-            return self.inner[number][-1]
-        owner = self.owner_of(number)
-        if owner is None:
-            return None
-        name = self.parts[number][1]
-        return self.inner[owner][self.bound[owner][name]]
+        It has None for free names, and for uses that stand for themselves.
+        """
+        found = []
+        for number, part in enumerate(self.parts):
+            owner = self.owners[number]
+            if part[0] == "let":
+                found.append(self.inner[number][-1])
+            elif owner is not None and owner[1] is not None:
+                definition = self.inner[owner[0]][owner[1]]
+                found.append(definition if definition != number else None)
+            else:
+                found.append(number if part[0] != "name" or owner is not None else None)
+        return found
 
     def find_heads(self):
         """A list with the number of the head of each part, or None where there is no head."""
-        heads = {number: number for number in range(len(self.parts)) if self.is_head(number)}
-        for start in range(len(self.parts)):
-            trail = []
-            at = start
-            while at is not None and at not in heads:
-                # Who comes back to a part of the same trail goes in a ring and finds no head.
-                heads[at] = None
-                trail.append(at)
-                at = self.onward(at)
-            found = None if at is None else heads[at]
-            for number in trail:
-                heads[number] = found
-        return [heads[number] for number in range(len(self.parts))]
+        steps = self.onward()
+        heads = steps
+        # Each round goes twice as far as the one before, and most heads are near.
+        for _ in range(len(steps).bit_length()):
+            further = [None if at is None else heads[at] for at in heads]
+            if further == heads:
+                break
+            heads = further
+        # Who is not at an end behind so many steps goes in a ring.
+        return [at if at is not None and steps[at] == at else None for at in heads]

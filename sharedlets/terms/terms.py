@@ -17,7 +17,7 @@ def is_name(value):
     """Whether the value is a name."""
     if not isinstance(value, str) or not 1 <= len(value) <= MAX_LETTERS:
         return False
-    return value not in SIGN_WORDS and all([letter in LETTERS for letter in value])
+    return value.isascii() and value.isalpha() and value.islower() and value not in SIGN_WORDS
 
 
 def _are_definitions(value):
@@ -46,16 +46,16 @@ def _is_built(value):
 def is_open_term(value):
     """Whether the value is an open term."""
     many = 0
-    waiting = [(value, 1)]
-    while waiting:
-        part, level = waiting.pop()
-        many += 1
-        # The limits are checked on the way: parts that are shared can be far too many to count.
-        if many > MAX_PARTS or level > MAX_LEVELS or not _is_built(part):
+    level = [value]
+    for _ in range(MAX_LEVELS):
+        many += len(level)
+        # The limit is checked on the way: parts that are shared can be far too many to count.
+        if many > MAX_PARTS or not all([_is_built(part) for part in level]):
             return False
-        for term in terms_in(part):
-            waiting.append((term, level + 1))
-    return True
+        level = [term for part in level for term in terms_in(part)]
+        if len(level) == 0:
+            return True
+    return False
 
 
 def is_term(value):
@@ -74,6 +74,16 @@ def check_term(term):
     """Raise InvalidTerm if the value is no term."""
     if not is_term(term):
         raise InvalidTerm("this is no term")
+
+
+def layout_of_term(term):
+    """The layout of a term, and the list of its heads: InvalidTerm if the value is no term."""
+    check_part(term)
+    layout = Layout(term)
+    heads = layout.find_heads()
+    if None in heads:
+        raise InvalidTerm("this is no term")
+    return layout, heads
 
 
 def check_name(name):
@@ -139,9 +149,8 @@ def free_names(part):
     """The ascending tuple of the names that are free in an open term."""
     check_part(part)
     layout = Layout(part)
-    uses = [number for number in range(len(layout.parts)) if layout.is_use(number)]
-    free = [layout.parts[number][1] for number in uses if layout.owner_of(number) is None]
-    return tuple(sorted(set(free)))
+    uses = [part[1] for part, owner in zip(layout.parts, layout.owners) if part[0] == "name" and owner is None]
+    return tuple(sorted(set(uses)))
 
 
 def size_of(part):
@@ -192,13 +201,11 @@ def binder_of(part, path):
     number = number_at(layout, path)
     if not layout.is_use(number):
         raise InvalidOperation("no use of a name stands there")
-    owner = layout.owner_of(number)
-    return None if owner is None else layout.path_of(owner)
+    owner = layout.owners[number]
+    return None if owner is None else layout.path_of(owner[0])
 
 
 def head_path(term, path):
     """The path of the head of the part at a path."""
-    check_term(term)
-    layout = Layout(term)
-    number = number_at(layout, path)
-    return layout.path_of(layout.find_heads()[number])
+    layout, heads = layout_of_term(term)
+    return layout.path_of(heads[number_at(layout, path)])

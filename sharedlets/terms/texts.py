@@ -21,12 +21,7 @@ def text_of(part, texts):
 def write(part):
     """The text of an open term."""
     check_part(part)
-    layout = Layout(part)
-    texts = {}
-    # What is in a part has greater numbers, so its text is there already.
-    for number in reversed(range(len(layout.parts))):
-        texts[number] = text_of(layout.parts[number], [texts[one] for one in layout.inner[number]])
-    return texts[0]
+    return Layout(part).built(text_of)
 
 
 class Reader:
@@ -82,12 +77,17 @@ class Reader:
         elif letters == "let":
             self.expect(" ")
             self.put_row(["let", [], self.read_name(" = ")])
-        elif not self.take("("):
-            return ("name", letters)
-        elif self.take(")"):
-            return ("word", letters, ())
         else:
-            self.put_row(["word", letters, []])
+            return self.read_behind(letters)
+        return None
+
+    def read_behind(self, letters):
+        """Read what comes behind the name at the start of an open term, like read_next."""
+        if not self.take("("):
+            return ("name", letters)
+        if self.take(")"):
+            return ("word", letters, ())
+        self.put_row(["word", letters, []])
         return None
 
     def close(self, part):
