@@ -114,6 +114,11 @@ def wide(parts):
 
 def odd_values():
     """Values of all kinds that [0.4] tells, made anew for each call."""
+    return small_values() + [shared_tree(130)]
+
+
+def small_values():
+    """The same without a value that has far too many parts to look at each of them."""
     graph = Graph(("fun", 1), ("var", 0))
     return [
         None, True, False, 0, 1, 2, 3, -1, 10 ** 30, 10 ** 40 - 1, -(10 ** 40) + 1,
@@ -130,7 +135,7 @@ def odd_values():
         ((0, 1), 2), ((0,), 0), (((0,), 1),), (((), 1),), (((0, 3), 1),), (((0,), -1),), (((0,), True),), (([0], 1),),
         (((0,), 10 ** 30),), (((0,), 10 ** 30 + 1),), ((((0,), 1), 1),),
         nested(lambda value: (value,), 9), nested(lambda value: [value], 9), nested(lambda value: {"x": value}, 9),
-        shared_tree(130), chain(121), chain(130), wide(501), graph, (graph,), [graph], ("name", graph), (graph, graph, graph),
+        chain(121), chain(130), wide(501), graph, (graph,), [graph], ("name", graph), (graph, graph, graph),
         ("word", "f", (graph,)), ("fun", graph), TEXTS[0], TEXTS[7],
     ]
 
@@ -843,3 +848,166 @@ def naive_difference(nodes, others, most):
 def ring(many, odd=()):
     """The nodes of a ring of words, some of them other ones."""
     return tuple(("word", "g" if at in odd else "f", ((at + 1) % many,)) for at in range(many))
+
+
+# Slow ways over bodies and families.
+
+def naive_are_variables(value):
+    return isinstance(value, tuple) and len(value) <= 8 and all(map(naive_is_name, value)) and len(set(value)) == len(value)
+
+
+def naive_body_size(value):
+    """How many words and functions a body has, or None if the value is not built like a body."""
+    if not isinstance(value, tuple):
+        return None
+    match value:
+        case ("name", x) if naive_is_name(x):
+            return 0
+        case ("call", name, names) if naive_is_name(name) and naive_are_variables(names):
+            return 0
+        case ("fun", x, body) if naive_is_name(x):
+            inner = naive_body_size(body)
+            return None if inner is None else inner + 1
+        case ("word", w, bodies) if naive_is_name(w) and isinstance(bodies, tuple) and len(bodies) <= 3:
+            inner = [naive_body_size(body) for body in bodies]
+            return None if None in inner else sum(inner) + 1
+    return None
+
+
+def naive_is_body(value):
+    size = naive_body_size(value)
+    return size is not None and size <= 100
+
+
+def body_inner(part):
+    return {"word": part[-1], "fun": part[2:]}.get(part[0], ())
+
+
+def body_paths(part):
+    """The paths of the uses of variables, words and functions in a body, ascending."""
+    if part[0] == "call":
+        return []
+    return [()] + [(at,) + path for at, inner in enumerate(body_inner(part)) for path in body_paths(inner)]
+
+
+def body_at(body, path):
+    for step in path:
+        body = body_inner(body)[step]
+    return body
+
+
+def naive_fits(definitions, body, names):
+    """Whether a body uses only variables and definitions that are there."""
+    match body[0]:
+        case "name":
+            return body[1] in names
+        case "call":
+            return body[1] in definitions and len(definitions[body[1]][0]) == len(body[2]) and set(body[2]) <= set(names)
+        case "fun":
+            return naive_fits(definitions, body[2], [*names, body[1]])
+    return all(naive_fits(definitions, inner, names) for inner in body[2])
+
+
+def naive_is_family(definitions):
+    """Whether there is a family with these definitions, but for how many words and functions there are."""
+    if not isinstance(definitions, dict) or len(definitions) not in range(1, 101) or not all(map(naive_is_name, definitions)):
+        return False
+    for pair in definitions.values():
+        if not isinstance(pair, tuple) or len(pair) != 2 or not naive_are_variables(pair[0]) or naive_body_size(pair[1]) is None:
+            return False
+    if "main" not in definitions or definitions["main"][0]:
+        return False
+    if not all(naive_fits(definitions, body, names) for names, body in definitions.values()):
+        return False
+    return all(naive_end(definitions, name) is not None for name in definitions)
+
+
+def naive_end(definitions, name):
+    """The definition whose body is no call to which a call of this one leads, or None."""
+    seen = []
+    while name not in seen:
+        seen.append(name)
+        if definitions[name][1][0] != "call":
+            return name
+        name = definitions[name][1][1]
+    return None
+
+
+def naive_lead(definitions, name, path, names):
+    """The place to which what stands at a path of a body leads, and what is handed on there; names has what is here."""
+    part = body_at(definitions[name][1], path)
+    while part[0] == "call":
+        name, path = part[1], ()
+        names = dict(zip(definitions[name][0], [names[variable] for variable in part[2]]))
+        part = definitions[name][1]
+    return name, path, names
+
+
+def naive_below(definitions, name, path, names):
+    """The last items of the values in names of all variables that are used at or below a place."""
+    found, seen = set(), set()
+    waiting = [(name, path, names)]
+    while waiting:
+        name, path, names = naive_lead(definitions, *waiting.pop())
+        key = (name, path, tuple(sorted(names.items())))
+        if key in seen:
+            continue
+        seen.add(key)
+        part = body_at(definitions[name][1], path)
+        if part[0] == "name":
+            found.add(names[part[1]])
+        inner = {**names, part[1]: ""} if part[0] == "fun" else names
+        waiting += [(name, path + (at,), inner) for at in range(len(body_inner(part)))]
+    return found - {""}
+
+
+def naive_needs_of(definitions, name, path):
+    """The needs of a place, or what a call there needs, ascending."""
+    names, body = set(definitions[name][0]), definitions[name][1]
+    for length in range(len(path)):
+        part = body_at(body, path[:length])
+        names |= {part[1]} if part[0] == "fun" else set()
+    return tuple(sorted(naive_below(definitions, name, path, {one: one for one in names})))
+
+
+def random_body(rng, definitions, names, levels):
+    """Any body with calls of these definitions, which have so many parameters, and with these variables."""
+    chance = rng.random()
+    called = rng.choice(sorted(definitions))
+    visible = sorted(set(names))
+    if levels <= 1 or chance < 0.15:
+        if rng.random() < 0.7 and len(visible) >= definitions[called]:
+            return ("call", called, tuple(rng.sample(visible, definitions[called])))
+        return ("name", rng.choice(visible)) if visible else ("word", "k", ())
+    if chance < 0.2 and visible:
+        return ("name", rng.choice(visible))
+    if chance < 0.5:
+        variable = rng.choice("abxy")
+        return ("fun", variable, random_body(rng, definitions, [*names, variable], levels - 1))
+    bodies = tuple(random_body(rng, definitions, names, levels - 1) for _ in range(rng.choice((0, 1, 2, 2, 3))))
+    return ("word", rng.choice("fg"), bodies)
+
+
+def random_definitions(rng, many, levels=4):
+    """So many dicts of the definitions of families."""
+    found = []
+    while len(found) < many:
+        parameters = {name: tuple(rng.sample("abcxyz", rng.randrange(4))) for name in rng.sample(["g", "h", "p", "q", "r"], rng.randrange(6))}
+        parameters["main"] = ()
+        counts = {name: len(row) for name, row in parameters.items()}
+        made = {name: (row, random_body(rng, counts, row, levels)) for name, row in parameters.items()}
+        if naive_is_family(made) and sum(naive_body_size(body) for _, body in made.values()) <= 100:
+            found.append(made)
+    return found
+
+
+def odd_bodies():
+    """Values that are bodies, or nearly."""
+    many = tuple(letters("v", at) for at in range(9))
+    return [
+        ("call", "g", ()), ("call", "g", ("x",)), ("call", "g", ("x", "y")), ("call", "g", ("x", "x")), ("call", "g", ["x"]), ("call", "g"),
+        ("call", "g", many[:8]), ("call", "g", many), ("call", "main", ()), ("call", "let", ()), ("call", "g", ("let",)), ("call", "g", (1,)),
+        ("call", "g", "x"), ("call", "g", ("x",), ()), ("call", None, ()), ["call", "g", ()], ("call", ("g",), ()), ("call", "g", (("name", "x"),)),
+        ("fun", "x", ("call", "g", ("x",))), ("word", "f", (("call", "g", ("x",)), ("fun", "x", ("name", "x")))), ("word", "f", (("call", "g", ()),) * 4),
+        ("let", (("x", ("word", "k", ())),), ("call", "g", ())), ("fun", "x", ("let", (("y", ("name", "x")),), ("name", "y"))),
+    ]

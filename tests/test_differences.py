@@ -139,6 +139,13 @@ class FirstDifferences(Case):
                 else:
                     self.assertEqual(found, naive_difference(graph.nodes, other.nodes, 10 ** 4))
 
+    def test_other_copies_that_differ(self):
+        """The words f are met with equal copies, then with other copies of the near function, then of the far one."""
+        one = graph_of(read("let a = fun x. let b = fun y. f(x, g(g(g(y))), b) in w(b, a) in a"))
+        two = graph_of(read("fun x. let b = fun y. let m = f(x, g(g(g(y))), fun z. m) in m; p = w(b, fun z. p) in p"))
+        self.assertEqual(first_difference(one, two), ((0, 1, 0, 0, 0, 0), ("var", 4), ("var", 6)))
+        self.assertEqual(first_difference(one, two), naive_difference(one.nodes, two.nodes, 10 ** 4))
+
     def test_many_copies_that_differ(self):
         """Each level goes through a function of its own again, or does not: the copies differ in very many ways."""
         one, two = [], []
@@ -271,7 +278,8 @@ class Errors(Case):
         graphs = ([Graph(K)], wrong_graphs())
         for call in (first_difference, alike_paper):
             check_errors(self, call, graphs, graphs)
-        check_errors(self, is_alike_paper, graphs, graphs, ([("unlike", ()), None], []))
+        for value in (("unlike", ()), ("alike", ((0, 0),)), None, ("alike", None), ("unlike", None)):
+            check_errors(self, is_alike_paper, graphs, graphs, ([value], []))
         self.fails(InvalidGraph, first_of(lambda value: iter([first_difference(value, value)])), APART)
 
     def test_everything_stands_in_its_module(self):

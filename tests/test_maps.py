@@ -344,7 +344,8 @@ class Errors(Case):
         graphs = ([Graph(K), graph_of(CROSS)], wrong_graphs())
         for call in (map_onto, product, common):
             check_errors(self, call, graphs, graphs)
-        check_errors(self, is_map, graphs, graphs, ([(0,), None, shown], []))
+        for value in ((0,), (), None, (1, 1)):
+            check_errors(self, is_map, graphs, graphs, ([value], []))
         check_errors(self, quotient, ([Graph(K)], wrong_graphs()), (
             [((0,),)], [(value, InvalidOperation) for value in odd_values() if value != ((0,),)]))
         check_errors(self, first_of(quotients), graphs)

@@ -234,7 +234,8 @@ class Errors(Case):
         graphs = ([Graph(K)], wrong_graphs())
         for call in (are_alike, matching, widest_matching):
             check_errors(self, call, graphs, graphs)
-        check_errors(self, is_matching, graphs, graphs, ([((0, 0),), None, shown], []))
+        for value in (((0, 0),), (), None, ((1, 1),)):
+            check_errors(self, is_matching, graphs, graphs, ([value], []))
 
     def test_everything_stands_in_its_module(self):
         for name in "are_alike matching widest_matching is_matching".split():

@@ -5,7 +5,7 @@ from sharedlets.alike.pairs import kind_of
 from sharedlets.checks import check_many
 from sharedlets.errors import InvalidAddress
 from sharedlets.graphs.nodes import children_of
-from sharedlets.looks.addresses import is_address, look
+from sharedlets.looks.addresses import look
 
 
 class Side:
@@ -129,7 +129,7 @@ def alike_paper(graph, other):
 
 
 def _look_or_none(graph, address):
-    """The look at an address, or None if it leads to no place."""
+    """The look at an address, or None if the value leads to no place."""
     try:
         return look(graph, address)
     except InvalidAddress:
@@ -143,7 +143,7 @@ def is_alike_paper(graph, other, value):
         return False
     if value[0] == "alike":
         return is_matching(graph, other, value[1])
-    if value[0] != "unlike" or not is_address(value[1]):
+    if value[0] != "unlike":
         return False
     one, two = _look_or_none(graph, value[1]), _look_or_none(other, value[1])
     return one is not None and two is not None and one != two

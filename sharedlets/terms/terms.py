@@ -149,8 +149,8 @@ def free_names(part):
     """The ascending tuple of the names that are free in an open term."""
     check_part(part)
     layout = Layout(part)
-    uses = [part[1] for part, owner in zip(layout.parts, layout.owners) if part[0] == "name" and owner is None]
-    return tuple(sorted(set(uses)))
+    free = [one[1] for one, owner in zip(layout.parts, layout.owners) if one[0] == "name" and owner is None]
+    return tuple(sorted(set(free)))
 
 
 def size_of(part):

@@ -1,0 +1,1 @@
+"""Changes of terms that keep the unfolding."""

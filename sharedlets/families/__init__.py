@@ -1,0 +1,1 @@
+"""Families of definitions with parameters."""

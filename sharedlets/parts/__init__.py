@@ -1,0 +1,1 @@
+"""Parts of graphs: the unfoldings below their nodes."""
