@@ -29,8 +29,9 @@ def write_body(body):
 def write_family(family):
     """The text of a family."""
     check_family(family)
+    others = [name for name in family.names if name != "main"]
     lines = []
-    for name in ("main", *[name for name in family.names if name != "main"]):
+    for name in ["main"] + others:
         parameters, body = family[name]
         lines.append(_call_text(name, parameters) + " = " + write_body(body))
     return "\n".join(lines)
