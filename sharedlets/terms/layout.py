@@ -102,10 +102,6 @@ class Layout:
             levels.append(levels[self.around[number]] + 1)
         return max(levels)
 
-    def is_use(self, number):
-        """Whether the part with this number is the use of a name."""
-        return self.parts[number][0] == "name"
-
     def onward(self):
         """A list with the number of the part to which each one leads at once: itself for a head.
 

@@ -1,5 +1,6 @@
 """Names, open terms and terms, their parts and paths."""
 
+from sharedlets.checks import is_below
 from sharedlets.errors import InvalidName, InvalidOperation, InvalidTerm
 from sharedlets.terms.layout import Layout, terms_in, with_term
 
@@ -100,6 +101,29 @@ def number_at(layout, path):
     return number
 
 
+def _way_to(part, path):
+    """The list of the parts around the part at a path, from the whole on, and this part itself.
+
+    InvalidOperation if the value is no path.
+    """
+    if not isinstance(path, tuple):
+        raise InvalidOperation("this is no path of the term")
+    way = [part]
+    for step in path:
+        terms = terms_in(way[-1])
+        if not is_below(step, len(terms)):
+            raise InvalidOperation("this is no path of the term")
+        way.append(terms[step])
+    return way
+
+
+def _binds(part, name):
+    """Whether this is a function with this variable, or a block with a definition of this name."""
+    if part[0] == "let":
+        return name in [one for one, _ in part[1]]
+    return part[0] == "fun" and part[1] == name
+
+
 def use(name):
     """The use of a name."""
     check_name(name)
@@ -176,20 +200,16 @@ def subterms(part):
 def part_at(part, path):
     """The part at a path."""
     check_part(part)
-    layout = Layout(part)
-    return layout.parts[number_at(layout, path)]
+    return _way_to(part, path)[-1]
 
 
 def put_at(part, path, other):
     """The open term with another one at a path."""
     check_part(part)
-    layout = Layout(part)
-    number = number_at(layout, path)
+    way = _way_to(part, path)
     made = other
-    while number > 0:
-        place = layout.places[number]
-        number = layout.around[number]
-        made = with_term(layout.parts[number], place, made)
+    for at in range(len(path) - 1, -1, -1):
+        made = with_term(way[at], path[at], made)
     check_part(made)
     return made
 
@@ -197,12 +217,13 @@ def put_at(part, path, other):
 def binder_of(part, path):
     """The path of the function or block to which the use at a path belongs, or None."""
     check_part(part)
-    layout = Layout(part)
-    number = number_at(layout, path)
-    if not layout.is_use(number):
+    way = _way_to(part, path)
+    if way[-1][0] != "name":
         raise InvalidOperation("no use of a name stands there")
-    owner = layout.owners[number]
-    return None if owner is None else layout.path_of(owner[0])
+    for length in range(len(path) - 1, -1, -1):
+        if _binds(way[length], way[-1][1]):
+            return path[:length]
+    return None
 
 
 def head_path(term, path):
