@@ -99,7 +99,7 @@ class Draft:
 
     def rename_uses(self, owner, name):
         """Write all uses that belong to this function or definition with another name."""
-        for number, one in enumerate(self.owners):
+        for number, one in enumerate(list(self.owners)):
             if one == owner:
                 self.labels[number] = name
 

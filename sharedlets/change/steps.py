@@ -138,7 +138,7 @@ def without_unused(term):
     check_term(term)
     draft = Draft(term)
     used = _used_definitions(draft)
-    for block, kind in enumerate(draft.kinds):
+    for block, kind in enumerate(list(draft.kinds)):
         if kind == "let":
             inner = draft.inner[block]
             draft.inner[block] = [one for one in inner[:-1] if one in used] + [inner[-1]]
