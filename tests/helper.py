@@ -6,7 +6,8 @@ import re
 import unittest
 from reprlib import repr as shown
 
-from sharedlets.errors import InvalidGraph, InvalidNumber
+from sharedlets.errors import InvalidFamily, InvalidGraph, InvalidNumber
+from sharedlets.families.texts import read_family
 from sharedlets.graphs.graphs import Graph
 from sharedlets.terms.texts import read
 
@@ -1011,3 +1012,251 @@ def odd_bodies():
         ("fun", "x", ("call", "g", ("x",))), ("word", "f", (("call", "g", ("x",)), ("fun", "x", ("name", "x")))), ("word", "f", (("call", "g", ()),) * 4),
         ("let", (("x", ("word", "k", ())),), ("call", "g", ())), ("fun", "x", ("let", (("y", ("name", "x")),), ("name", "y"))),
     ]
+
+
+# Families to try, changes of them, and slow ways over programs.
+
+FAMILY_TEXTS = (
+    "main[] = fun a. g[a]\ng[x] = fun y. at(x, g[x])",
+    "main[] = fun a. g[a]\ng[x] = fun y. at(x, g[y])",
+    "main[] = fun a. fun b. g[a, b]\ng[x, z] = pair(x, g[z, x])",
+    "main[] = fun a. fun b. g[a, b]\ng[x, y] = at(x, g[x, y])",
+    "main[] = f(main[])",
+    "main[] = fun a. k(a, main[])",
+    "main[] = g[]\ng[] = h[]\nh[] = fun a. k(a, g[], main[])\np[x] = q[x]\nq[y] = y",
+    "main[] = fun x. fun x. g[x]\ng[x] = fun x. f(x, g[x], main[])",
+    "main[] = fun a. fun b. fun c. g[a, b, c]\ng[x, y, z] = f(x, g[y, z, x], g[y, x, z])",
+    "main[] = fun a. fun b. g[a, b]\ng[x, y] = fun z. f(x, y, g[y, x])",
+    "main[] = fun a. fun b. g[a, b]\ng[x, y] = fun z. f(x, h[y, z])\nh[u, v] = pair(u, g[u, v])",
+    "main[] = fun a. pair(k(a), fun b. g[b, a])\ng[x, y] = pair(x, fun z. pair(y, g[x, z]))",
+    "main[] = fun a. pair(g[a], h[a])\ng[x] = fun y. k(x, y)\nh[x] = fun y. k(y, x)",
+    "main[] = fun a. pair(g[a], fun b. g[b])\ng[x] = m(x)",
+    "main[] = fun a. fun b. pair(fun c. f(a, c), fun c. f(b, c), fun c. f(c, a))",
+    "main[] = pair(g[], h[])\ng[] = fun a. k(a, g[])\nh[] = fun b. k(b, p[])\np[] = fun c. k(c, h[])",
+    "main[] = fun a. g[a]\ng[x] = f(fun y. at(x, y), h[x])\nh[x] = fun z. f(z, g[x], h[z])",
+    "main[] = fun a. fun b. f(fun c. g[c, a], fun d. g[d, b], g[a, b])\ng[x, y] = at(x, fun z. at(y, g[z, x]))",
+    "main[] = fun a. f(g[a], fun b. h[a, b])\ng[x] = fun y. at(x, y)\nh[x, y] = fun z. at(y, z, x)",
+    "main[] = fun a. g[a]\ng[x] = pair(x, fun y. h[x, y])\nh[x, y] = pair(y, fun z. g[x])",
+    "main[] = fun a. p[a]\np[x] = fun y. at(x, q[y])\nq[x] = fun z. on(x, p[z])",
+    "main[] = f(fun a. p[a], fun a. f(q[a]))\np[x] = fun y. f(x, f(q[y]))\nq[x] = fun z. on(x, fun u. f(z, p[u]))",
+)
+
+
+def mapped_body(body, names, make):
+    """The body with what is made of each use and call: make is passed the part, and the names of all variables there."""
+    match body[0]:
+        case "word":
+            return ("word", body[1], tuple(mapped_body(inner, names, make) for inner in body[2]))
+        case "fun":
+            return ("fun", body[1], mapped_body(body[2], [*names, body[1]], make))
+    return make(body, sorted(set(names)))
+
+
+def mapped_family(definitions, make):
+    return {name: (row, mapped_body(body, row, make)) for name, (row, body) in definitions.items()}
+
+
+def copied_family(rng, definitions):
+    """Alike definitions, each of which but main stands twice; each call goes to one of both."""
+    fresh = [name for name in (letters("c", at) for at in range(300)) if name not in definitions]
+    more = {name: fresh[at] for at, name in enumerate(definitions) if name != "main"}
+
+    def called(part, names):
+        if part[0] == "name" or part[1] == "main":
+            return part
+        return ("call", rng.choice((part[1], more[part[1]])), part[2])
+    made = {**definitions, **{more[name]: definitions[name] for name in more}}
+    return mapped_family(made, called)
+
+
+def turned_family(rng, definitions):
+    """Alike definitions with their parameters in other orders."""
+    orders = {name: rng.sample(range(len(row)), len(row)) for name, (row, _) in definitions.items()}
+
+    def called(part, names):
+        if part[0] == "name":
+            return part
+        return ("call", part[1], tuple(part[2][at] for at in orders[part[1]]))
+    made = mapped_family(definitions, called)
+    return {name: (tuple(row[at] for at in orders[name]), body) for name, (row, body) in made.items()}
+
+
+def padded_family(rng, definitions):
+    """Alike definitions, one of which perhaps has one more parameter, which it does not need; calls hand on anything."""
+    grown = rng.choice(sorted(set(definitions) - {"main"}) or ["main"])
+    fits = [grown != "main"]
+
+    def called(part, names):
+        if part[0] == "name" or part[1] != grown:
+            return part
+        free = [name for name in names if name not in part[2]]
+        fits.append(len(free) > 0)
+        return ("call", grown, (*part[2], rng.choice(free))) if free else part
+    row, body = definitions[grown]
+    more = [name for name in (letters("u", at) for at in range(300)) if name not in row][0]
+    made = mapped_family({**definitions, grown: ((*row, more), body)}, called)
+    return made if all(fits) and len(row) < 8 else definitions
+
+
+def changed_family(rng, definitions):
+    """Definitions with one word, use, call, child or order changed, or others that are no more those of a family."""
+    name = rng.choice(sorted(definitions))
+    row, body = definitions[name]
+
+    def changed(part, names):
+        inner = body_inner(part)
+        if inner and rng.random() < 0.6:
+            at = rng.randrange(len(inner))
+            rest = inner[:at] + (changed(inner[at], [*names, part[1]] if part[0] == "fun" else names),) + inner[at + 1:]
+            return ("word", part[1], rest) if part[0] == "word" else ("fun", part[1], rest[0])
+        match part[0]:
+            case "word":
+                return ("word", rng.choice(("f", part[1])), tuple(rng.sample(inner, len(inner))))
+            case "fun":
+                return rng.choice((("fun", rng.choice("abx"), part[2]), ("word", "f", ())))
+            case "call":
+                return ("call", part[1], tuple(rng.sample(sorted(set(names)), len(part[2]))))
+        return ("name", rng.choice(sorted(names)))
+    return {**definitions, name: (row, changed(body, row))}
+
+
+def naive_fits_in(definitions):
+    """Whether there is such a family, with not too many words and functions."""
+    return naive_is_family(definitions) and sum(naive_body_size(body) for _, body in definitions.values()) <= 100
+
+
+def some_families(seed, many):
+    """Dicts of definitions: those of the texts, random ones, alike ones and changed ones."""
+    rng = random.Random(seed)
+    found = [read_family(text).definitions for text in FAMILY_TEXTS]
+    found += [made for made in random_definitions(rng, many * 20) if naive_variety(made)][:many]
+    found += [rng.choice((copied_family, turned_family, padded_family))(rng, made) for made in found]
+    changed = [changed_family(rng, made) for made in found]
+    return [made for made in found + changed if naive_fits_in(made)]
+
+
+def naive_variety(definitions):
+    """Whether some definition that is called has parameters, and much is reached."""
+    called = set()
+    places = naive_family_places(definitions)
+    for name, path in places:
+        called.add(name)
+    return len(places) > 4 and any(definitions[name][0] for name in called)
+
+
+def naive_family_below(definitions, name, path):
+    """The pairs (place, dict from the variables there to those of a place) for the children of the place."""
+    names = {one: one for one in definitions[name][0]}
+    body = definitions[name][1]
+    for length in range(len(path) + 1):
+        part = body_at(body, path[:length])
+        names |= {part[1]: part[1]} if part[0] == "fun" else {}
+    found = []
+    for at in range(len(body_inner(body_at(body, path)))):
+        child, inner, given = naive_lead(definitions, name, path + (at,), names)
+        found.append(((child, inner), given))
+    return found
+
+
+def naive_family_places(definitions):
+    """The reached places of a family, ascending."""
+    found, waiting = set(), [naive_lead(definitions, "main", (), {})[:2]]
+    while waiting:
+        place = waiting.pop()
+        if place not in found:
+            found.add(place)
+            waiting += [child for child, _ in naive_family_below(definitions, *place)]
+    return sorted(found)
+
+
+def naive_spots(program, depth):
+    """A dict from the plain addresses of a program down to a depth to triples.
+
+    A triple is: the look, the set of the lengths of the addresses of the needed functions above, and the place.
+    """
+    if isinstance(program, Graph):
+        needs = naive_needs(program.nodes)
+        return {
+            address: (naive_look(program.nodes, way), {nearest(way, one) for one in needs[way[-1]]}, way[-1])
+            for address, way in naive_places(program.nodes, depth).items()
+        }
+    spots = {}
+    waiting = [((), "main", (), {})]
+    while waiting:
+        address, *place = waiting.pop()
+        name, path, names = naive_lead(program.definitions, *place)
+        part = body_at(program[name][1], path)
+        look = ("var", len(address) - names[part[1]]) if part[0] == "name" else ("fun",)
+        if part[0] == "word":
+            look = ("word", part[1], len(part[2]))
+        spots[address] = (look, naive_below(program.definitions, name, path, names), (name, path))
+        if part[0] == "fun":
+            names = {**names, part[1]: len(address)}
+        if len(address) < depth:
+            waiting += [(address + (at,), name, path + (at,), names) for at in range(len(body_inner(part)))]
+    return spots
+
+
+def naive_program_difference(first, second, depth):
+    """The first difference of two programs with an address of at most this length, or None."""
+    spots, others = naive_spots(first, depth), naive_spots(second, depth)
+    found = [at for at in spots if at in others and spots[at][0] != others[at][0]]
+    if not found:
+        return None
+    at = min(found, key=lambda address: (len(address), address))
+    return (at, spots[at][0], others[at][0])
+
+
+def naive_row(spots, address):
+    """The row at a place, from its spots."""
+    needed = spots[address][1]
+    if not needed:
+        return ()
+    lowest = max(needed)
+    return naive_row(spots, address[:lowest]) + (address[:lowest],)
+
+
+def naive_anchors(definitions):
+    """The set of the pairs (anchor place, place), found by going down with all needs in the order of their functions."""
+    needs = {place: naive_needs_of(definitions, *place) for place in naive_family_places(definitions)}
+    found, seen = set(), set()
+    waiting = [(naive_lead(definitions, "main", (), {})[:2], ())]
+    while waiting:
+        place, order = waiting.pop()
+        if (place, order) in seen:
+            continue
+        seen.add((place, order))
+        part = body_at(definitions[place[0]][1], place[1])
+        if part[0] == "fun" and order:
+            found.add((order[-1][1], place))
+        for child, given in naive_family_below(definitions, *place):
+            passed = order
+            if part[0] == "fun":
+                passed = tuple(one for one in order if one[0] != part[1]) + ((part[1], place),)
+            row = []
+            for variable, function in passed:
+                row += [(need, function) for need in needs[child] if given[need] == variable]
+            waiting.append((child, tuple(row)))
+    return found
+
+
+def naive_has_ring(pairs):
+    """Whether these pairs (from, to) have a ring."""
+    left = set(pairs)
+    while left:
+        less = {(one, two) for one, two in left if any(one == other for _, other in left)}
+        if less == left:
+            return True
+        left = less
+    return False
+
+
+def wrong_families():
+    """Pairs (value, wanted error) of values that are no families."""
+    values = odd_values() + [ROLL, FAMILY_TEXTS[0], {"main": ((), ("word", "k", ()))}]
+    return [(value, InvalidFamily) for value in values]
+
+
+def wrong_programs():
+    """Likewise of values that are neither families nor graphs."""
+    return [(value, wanted) for value, wanted in wrong_families() if not isinstance(value, Graph)]

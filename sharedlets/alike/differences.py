@@ -15,12 +15,13 @@ class Side:
         self.rows = [children_of(node) for node in graph]
         self.marks = [kind_of(node) for node in graph]
         self.depths = [len(graph.scope(node)) for node in range(len(graph))]
+        self.first = 0
 
-    def copies_below(self, node, copies, length, child):
+    def copies_below(self, node, copies, length, step):
         """The copies at a child of a node whose address has this length and whose copies are these."""
         behind = copies + (length,) if self.marks[node] == ("fun",) else copies
         # The scope of a child is a beginning of that of its parent, or of this with the parent behind it.
-        return behind[:self.depths[child]]
+        return behind[:self.depths[self.rows[node][step]]]
 
 
 def _equal_places(copies, others):
@@ -33,13 +34,14 @@ class Search:
     """Goes through two unfoldings at once, in the order of the addresses, up to the first difference.
 
     A place is (node, partner, copies, others): the nodes there, and the lengths of the addresses of the nearest
-    copies of the functions in their scopes. Below two places with the same nodes the looks are the same but for
-    variables of functions that are open there. Such variables differ if their functions do not have the same copy.
+    copies of the functions in their scopes. (A side can also be the outline of a program, with the copies of the
+    functions that its places need.) Below two places with the same nodes the looks are the same but for variables
+    of functions that are open there. Such variables differ if their functions do not have the same copy.
     """
 
-    def __init__(self, graph, other):
-        self.one = Side(graph)
-        self.two = Side(other)
+    def __init__(self, one, two):
+        self.one = one
+        self.two = two
         # For each place how long its address is, the number of the place around it, and the step from there.
         self.places = []
         self.ways = []
@@ -71,10 +73,10 @@ class Search:
         node, partner, copies, others = self.places[number]
         length = self.ways[number][0]
         found = []
-        for child, other in zip(self.one.rows[node], self.two.rows[partner]):
-            inner = self.one.copies_below(node, copies, length, child)
-            outer = self.two.copies_below(partner, others, length, other)
-            found.append((child, other, inner, outer))
+        for step, child in enumerate(self.one.rows[node]):
+            inner = self.one.copies_below(node, copies, length, step)
+            outer = self.two.copies_below(partner, others, length, step)
+            found.append((child, self.two.rows[partner][step], inner, outer))
         return found
 
     def address_of_way(self, way):
@@ -88,7 +90,7 @@ class Search:
 
     def first_address(self):
         """The first address with different looks, or None."""
-        start = (0, 0, (), ())
+        start = (self.one.first, self.two.first, (), ())
         if self.differ(start):
             return ()
         self.keep(start, (0, 0, 0))
@@ -106,7 +108,7 @@ class Search:
 def first_difference(graph, other):
     """The first address at which two graphs differ, with the looks of both there, or None if they are alike."""
     check_both(graph, other)
-    address = Search(graph, other).first_address()
+    address = Search(Side(graph), Side(other)).first_address()
     if address is None:
         return None
     return (address, look(graph, address), look(other, address))

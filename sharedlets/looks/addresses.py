@@ -11,11 +11,14 @@ MAX_TIMES = 10 ** 30
 MAX_STEPS = 1000
 
 
+def is_plain_address(value):
+    """Whether the value is a tuple of numbers of children, so an address without pairs."""
+    return isinstance(value, tuple) and all([is_below(step, MAX_TERMS) for step in value])
+
+
 def _is_piece(value):
     """Whether the value is a tuple of one or more numbers of children."""
-    if not isinstance(value, tuple) or len(value) == 0:
-        return False
-    return all([is_below(step, MAX_TERMS) for step in value])
+    return is_plain_address(value) and len(value) > 0
 
 
 def _is_pair(value):

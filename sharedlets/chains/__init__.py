@@ -1,0 +1,1 @@
+"""Chains of families, and graphs of families without a chain."""
