@@ -1260,3 +1260,50 @@ def wrong_families():
 def wrong_programs():
     """Likewise of values that are neither families nor graphs."""
     return [(value, wanted) for value, wanted in wrong_families() if not isinstance(value, Graph)]
+
+
+# Slow ways over stores.
+
+def naive_store(programs):
+    """The nodes and the roots of a store, from a dict from names to the nodes of graphs."""
+    nodes, tops = [], {}
+    for name in sorted(programs):
+        first = tops[name] = len(nodes)
+        for node in programs[name]:
+            if node[0] == "word":
+                nodes.append(("word", node[1], tuple(child + first for child in node[2])))
+            else:
+                nodes.append((node[0], node[1] + first))
+    pairs = naive_matching_pairs(nodes, nodes)
+    lead = {node: min(other for one, other in pairs if one == node) for node in range(len(nodes))}
+    numbers = {}
+
+    def walk(node):
+        if lead[node] not in numbers:
+            numbers[lead[node]] = len(numbers)
+            for child in children_of(nodes[lead[node]]):
+                walk(child)
+
+    for name in sorted(programs):
+        walk(tops[name])
+    made = []
+    for old in numbers:
+        node = nodes[old]
+        if node[0] == "word":
+            made.append(("word", node[1], tuple(numbers[lead[child]] for child in node[2])))
+        else:
+            made.append((node[0], numbers[lead[node[1]]]))
+    return tuple(made), {name: numbers[lead[tops[name]]] for name in sorted(programs)}
+
+
+def long_graph(letter, many=100):
+    """A least graph with so many nodes, which shares none with those of other letters."""
+    return Graph.of(tuple(("word", letter if at else letter + "x", ((at + 1) % many,)) for at in range(many)))
+
+
+def deep_term(many):
+    """A term whose graph has so many nodes."""
+    term = ("word", "k", ())
+    for _ in range(many - 1):
+        term = ("word", "f", (term,))
+    return term

@@ -55,7 +55,7 @@ def chain(family):
     return ("chain", first_way(outline.rows, outline.first, ring[0]), tuple(pieces))
 
 
-def _is_form(value):
+def is_chain_form(value):
     """Whether the value is built like a chain, wherever it leads."""
     if not isinstance(value, tuple) or len(value) != 3 or value[0] != "chain" or not is_plain_address(value[1]):
         return False
@@ -87,7 +87,7 @@ def _are_anchors(outline, way, paper):
 def is_chain(family, value):
     """Whether the value is a chain of a family."""
     check_family(family)
-    if not _is_form(value):
+    if not is_chain_form(value):
         return False
     outline = Outline(family)
     try:

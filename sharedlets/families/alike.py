@@ -9,10 +9,7 @@ def look_in(program, address):
     """The look of the place at a plain address."""
     outline = Outline(program)
     number, copies = way_of(outline, address)[-1]
-    mark = outline.marks[number]
-    if mark == ("var",):
-        return ("var", len(address) - copies[0])
-    return mark
+    return outline.look_of(number, copies, len(address))
 
 
 def needed_at(program, address):

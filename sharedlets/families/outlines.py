@@ -125,6 +125,11 @@ class Outline:
         """The same for the lengths of the addresses of functions, if that of the place itself is this one."""
         return self.handed(number, step, copies, length)
 
+    def look_of(self, number, copies, length):
+        """The look of a place whose address has this length, where the lengths for its needs are these."""
+        mark = self.marks[number]
+        return ("var", length - copies[0]) if mark == ("var",) else mark
+
     def number_at(self, place):
         """The number of a place, or None for every value that is none."""
         if isinstance(place, tuple):

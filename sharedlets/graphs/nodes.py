@@ -106,13 +106,14 @@ def first_walk(inner, root):
     return list(met)
 
 
+def pointed(node, numbers):
+    """The node with other numbers: numbers has one for each child, or for the function of a variable."""
+    passed = [node[1]] if node[0] == "var" else children_of(node)
+    return with_children(node, [numbers[one] for one in passed])
+
+
 def numbered(nodes, root):
     """The nodes that are reached from the root, numbered by the first walk."""
     order = first_walk([children_of(node) for node in nodes], root)
     numbers = {old: new for new, old in enumerate(order)}
-    made = []
-    for old in order:
-        node = nodes[old]
-        passed = [node[1]] if node[0] == "var" else children_of(node)
-        made.append(with_children(node, [numbers[one] for one in passed]))
-    return tuple(made)
+    return tuple([pointed(nodes[old], numbers) for old in order])

@@ -5,7 +5,7 @@ A list of leads tells which nodes are joined: for each node it has the least one
 
 from sharedlets.alike.pairs import demands, labels_of, links_of, refined
 from sharedlets.graphs.graphs import Graph
-from sharedlets.graphs.nodes import children_of, needs_of, numbered, with_children
+from sharedlets.graphs.nodes import needs_of, numbered, pointed
 
 
 def leads_of(ranks):
@@ -39,11 +39,7 @@ def merged(graph, leads, pairs):
 
 def joined_nodes(nodes, leads):
     """The nodes in which each set of joined nodes has become one, numbered anew."""
-    made = []
-    for node in nodes:
-        passed = [node[1]] if node[0] == "var" else children_of(node)
-        made.append(with_children(node, [leads[one] for one in passed]))
-    return numbered(made, 0)
+    return numbered([pointed(node, leads) for node in nodes], 0)
 
 
 def joined_graph(graph, leads):
@@ -52,9 +48,16 @@ def joined_graph(graph, leads):
     return Graph.of(nodes)
 
 
-def least_nodes(nodes):
-    """The least ones of nodes that are numbered by the first walk; there can be more than those of a graph."""
-    # The innermost one of the functions that a node needs is met behind the others on the first walk.
+def node_ranks(nodes):
+    """For each node the number of its class; outer functions must be numbered ahead of inner ones.
+
+    There can be more nodes than those of a graph, and other roots than the first one.
+    """
+    # The innermost one of the functions that a node needs is the last one of them.
     inner = [needs[-1] if len(needs) > 0 else None for needs in needs_of(nodes)]
-    ranks = refined(labels_of(nodes, inner), links_of(nodes, inner, 0))
-    return joined_nodes(nodes, leads_of(ranks))
+    return refined(labels_of(nodes, inner), links_of(nodes, inner, 0))
+
+
+def least_nodes(nodes):
+    """The least ones of nodes that are numbered by the first walk."""
+    return joined_nodes(nodes, leads_of(node_ranks(nodes)))

@@ -1,0 +1,1 @@
+"""Stores of programs that share their nodes."""
