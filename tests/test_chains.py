@@ -234,6 +234,16 @@ class Chains(Case):
         self.assertIs(is_chain(family, ONCE), False)
         self.assertIs(is_chain(family, ("chain", (0,), ((0, 1), (0, 1)))), True)
 
+    def test_pieces_that_lead_to_functions_with_other_anchors_or_none(self):
+        family = read_family("main[] = fun a. f(g[a], main[])\ng[x] = fun y. at(x, g[y], fun z. f(x, k(z)))")
+        for start, pieces, wanted in (
+            ((0, 0), ((0, 1),), True), ((), ((0, 1),), False), ((), ((0, 1), (0, 0)), False), ((0, 0), ((0, 2),), False), ((0, 0), ((0, 1), (0, 2)), False),
+            ((0, 1, 0, 0), ((0, 1), (0, 1)), True), ((0, 1), ((0, 0),), False), ((0, 0), ((0,),), False), ((0,), ((0,),), False), ((0, 0, 0, 2), ((0,),), False),
+        ):
+            value = ("chain", start, pieces)
+            self.assertIs(naive_is_chain(family, value), wanted)
+            self.assertIs(is_chain(family, value), wanted, value)
+
     def test_values_that_are_none(self):
         for value in odd_values() + [
             ("chain", (0,), ()), ("chain", (0,), ((),)), ("chain", (0,), ((0, 1), ())), ("chain", (0,), [(0, 1)]), ["chain", (0,), ((0, 1),)],

@@ -212,6 +212,12 @@ class Values(Case):
         self.assertEqual(parse_address("(0)*0"), (((0,), 0),))
         for text in (f"(0)*{FAR + 1}", f"(0)*{LARGE}", f"(0)*{LARGE + 1}", "(0)*00", "(0)*01", "00", "3", "(3)*1", "(00)*1", "-0", "(0)*-1", "0.-", "-.0"):
             self.fails(ParseError, parse_address, text)
+        self.fails(InvalidOperation, format_difference, ((), ("word", "f", 4), ("fun",)))
+        self.fails(InvalidOperation, format_difference, ((), ("word", "f", True), ("fun",)))
+        self.fails(InvalidOperation, format_difference, ((), (), ("fun",)))
+        self.fails(ParseError, parse_difference, "-: f/4, fun")
+        for text in ("(0)*" + "1" * 5000, "0" * 5000, "(" + "1" * 5000 + ")*2"):
+            self.fails(ParseError, parse_address, text)
         for pairs in (((0, 100),), ((100, 0),), ((0, 1), (0, 0)), ((0, 0), (0, 0)), ((-1, 0),)):
             self.fails(InvalidOperation, format_relation, pairs)
             self.fails(ParseError, parse_relation, relation_text(pairs))

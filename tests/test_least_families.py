@@ -197,6 +197,7 @@ class Parts(Case):
         check_errors(self, open_parts, ([KEPT], wrong_families()))
         check_errors(self, renaming, ([KEPT], wrong_families()[::9]), (places, wrong), (places, wrong))
         self.fails(InvalidFamily, open_parts, graph_of(APART))
+        self.fails(InvalidFamily, renaming, graph_of(APART), 0, 0)
 
 
 def wrapped_size(definitions, place):

@@ -100,7 +100,6 @@ def is_chain(family, value):
 
 def walked(family, paper, many):
     """The plain address behind all pieces of a chain, gone through so many times."""
-    check_family(family)
     if not is_chain(family, paper):
         raise InvalidOperation("this is no chain of the family")
     check_below(many, MAX_WALKED + 1)

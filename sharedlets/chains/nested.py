@@ -2,7 +2,6 @@
 
 from sharedlets.chains.chains import chain
 from sharedlets.errors import Chained, TooMany
-from sharedlets.families.families import check_family
 from sharedlets.families.outlines import Outline, part_ranks_of
 from sharedlets.graphs.graphs import MAX_NODES, Graph
 from sharedlets.graphs.made import term_of
@@ -87,7 +86,6 @@ def is_plain(family):
 
 def _form_of(family):
     """The least graph of a family while it is made: Chained if there is none."""
-    check_family(family)
     paper = chain(family)
     if paper is not None:
         raise Chained(paper)

@@ -60,9 +60,9 @@ def anchors_above(outline):
     """A dict from the reached places that are functions to the lists of their anchor places."""
     parents = _parents_of(outline)
     found = {}
-    for number in sorted(first_walk(outline.rows, outline.first)):
+    for number in first_walk(outline.rows, outline.first):
         if outline.marks[number] == ("fun",):
-            found[number] = sorted(Ascent(outline, parents, number).anchors_met)
+            found[number] = list(Ascent(outline, parents, number).anchors_met)
     return found
 
 
