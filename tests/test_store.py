@@ -496,6 +496,21 @@ class Trials(Case):
             self.store.undo(many=3)
         self.assertEqual(self.state(self.store), now)
 
+    def test_one_block_in_itself(self):
+        block = self.store.trial()
+        with block as same:
+            same.do(("put", "d", K))
+            inner = self.state(same)
+            with self.assertRaises(UnknownName):
+                with block:
+                    same.do(("drop", "d"))
+                    with block:
+                        same.undo(many=3)
+                    self.assertEqual(same.names, ("a", "b"))
+                    same["zz"]
+            self.assertEqual(self.state(same), inner)
+        self.assertEqual(self.state(self.store), self.before)
+
     def test_attempts(self):
         def action(store):
             self.assertIs(store, self.store)

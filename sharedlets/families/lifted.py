@@ -71,7 +71,7 @@ def without_unneeded(family):
         if part[0] == "name":
             return part
         if part[0] == "call":
-            return ("call", part[1], tuple([name for name, stays in zip(part[2], kept[part[1]]) if stays]))
+            return ("call", part[1], tuple([variable for variable, stays in zip(part[2], kept[part[1]]) if stays]))
         return (part[0], part[1], inner[0] if part[0] == "fun" else tuple(inner))
 
     return Family.of({name: (family.needs(name), Layout(family[name][1]).built(kept_part)) for name in family.names})

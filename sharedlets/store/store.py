@@ -85,19 +85,28 @@ class Moment:
         self.told = told
 
 
+class Beginning:
+    """What a store is where a block of a trial begins, and the beginning of the block around with the same trial."""
+
+    def __init__(self, moment, around):
+        self.moment = moment
+        self.around = around
+
+
 class Trial:
-    """A block at whose end a store is as at its beginning."""
+    """A block at whose end a store is as at its beginning; blocks with one trial can be nested, too."""
 
     def __init__(self, store):
         self.store = store
-        self.held = None
+        self.begun_at = None
 
     def __enter__(self):
-        self.held = self.store._moment
+        self.begun_at = Beginning(self.store._moment, self.begun_at)
         return self.store
 
     def __exit__(self, kind, value, trace):
-        self.store._moment = self.held
+        self.store._moment = self.begun_at.moment
+        self.begun_at = self.begun_at.around
 
 
 class Store:
@@ -136,13 +145,13 @@ class Store:
     @kept.setter
     def kept(self, value):
         """Set how many steps can be undone at most."""
-        check_below(value, MAX_KEPT + 1)
-        now = self._moment
-        self._moment = Moment(now.pool, now.done, now.undone, value, now.told)
+        self.keep(value)
 
     def keep(self, kept):
         """Set how many steps can be undone at most."""
-        self.kept = kept
+        check_below(kept, MAX_KEPT + 1)
+        now = self._moment
+        self._moment = Moment(now.pool, now.done, now.undone, kept, now.told)
 
     def do(self, *edits):
         """Make edits as one step; return how many steps can be undone."""
@@ -248,5 +257,4 @@ class Store:
         return isinstance(other, Store) and self._moment.pool.programs == other._moment.pool.programs
 
     def __str__(self):
-        pool = self._moment.pool
-        return f"store of {len(pool.programs)} programs, {len(pool.shared_nodes)} nodes"
+        return f"store of {len(self._moment.pool.programs)} programs, {len(self._moment.pool.shared_nodes)} nodes"

@@ -156,10 +156,10 @@ def _read_node(line):
 
 
 def _read_address(text):
-    """The elements of an address with this text, whatever its numbers are."""
+    """What has this text as an address, whatever its numbers are."""
     if text == "-":
         return ()
-    elements = []
+    made = []
     piece = None
     for word in text.split("."):
         if piece is None and word.startswith("("):
@@ -168,13 +168,13 @@ def _read_address(text):
         head, sign, tail = begun.partition(")*")
         step = _read_number(head)
         if piece is None:
-            elements.append(step)
+            made.append(step)
         else:
             piece.append(step)
         if sign != "" and piece is not None:
-            elements.append((tuple(piece), _read_number(tail)))
+            made.append((tuple(piece), _read_number(tail)))
             piece = None
-    return tuple(elements)
+    return tuple(made)
 
 
 def _read_look(text):
